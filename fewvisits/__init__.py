@@ -1,0 +1,1 @@
+"""Deals over typed things kept at several sites: the modules of this folder hold all names."""
