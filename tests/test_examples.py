@@ -7,7 +7,8 @@ import unittest
 from tests import interface_examples
 
 # In the order of the document, as later sections use the names that earlier ones made.
-SECTIONS = ["checks", "papers", "kinds", "plays", "makers", "alike"]
+SECTIONS = ["checks", "papers", "kinds", "plays", "makers", "alike", "check_alike", "histories", "orders", "weaves",
+            "check_orders", "own", "check_own"]
 
 
 def names_of(module):
@@ -55,7 +56,7 @@ class Examples(unittest.TestCase):
                 with self.subTest(section=section, statement=statement):
                     self.check(statement, wanted, names)
                     count += 1
-        self.assertGreater(count, 20)
+        self.assertGreater(count, 50)
 
 
 if __name__ == "__main__":
