@@ -6,6 +6,7 @@ from fewvisits import errors
 from fewvisits.alike import Alike, Parts
 from fewvisits.checks import is_integer, is_just, is_lot, is_within, is_word
 from fewvisits.papers import Denial, Paper, fixed
+from fewvisits.texts import number_told
 from tests.naive import NO_INTEGERS, NO_LISTS, Odd, OwnInt, OwnList, OwnStr
 
 WITH_PART = ["BadNumber", "BadLot", "BadKind", "BadValue", "BadSpread", "BadOrder", "BadLog", "BadPairs",
@@ -89,6 +90,13 @@ class Checks(unittest.TestCase):
                       ["a"], ("a", "b"), None, 7, True, Odd()):
             self.assertIs(is_word(value), False)
 
+    def test_numbers_told(self):
+        for item, wanted in (("0", 0), ("7", 7), ("-7", -7), ("10", 10), ("9" * 60, 10 ** 60 - 1), ("9" * 61, None),
+                             ("-" + "9" * 60, 1 - 10 ** 60), ("-" + "9" * 61, None), ("", None), ("-", None),
+                             ("-0", None), ("00", None), ("07", None), ("-07", None), ("+7", None), ("--7", None),
+                             ("7-", None), ("1_0", None), (" 7", None), ("7\n", None), ("\u0667", None), ("x", None)):
+            self.assertEqual(number_told(item), wanted, item)
+
     def test_just(self):
         self.assertTrue(is_just(((1, 2), 3), ((1, 2), 3)))
         for value in (((True, 2), 3), ((1.0, 2), 3), ((1, 2),), ((1, 2), 3, 3), [(1, 2), 3], (1, 3), Odd(), None):
@@ -119,6 +127,10 @@ class Papers(unittest.TestCase):
         for other in (Paper("b", [1]), Paper("a", [2]), Paper("a", [1], 2), Denial("a", [1]), "a", None, ("a", (1,))):
             self.assertIs(Paper("a", [1]) == other, False)
             self.assertIs(Paper("a", [1]) != other, True)
+        for other in (Denial("b", [1]), Denial("a", [2]), Denial("a", [1], 2), Paper("a", [1]), "a", None, ("a", (1,))):
+            self.assertIs(Denial("a", [1]) == other, False)
+            self.assertIs(Denial("a", [1]) != other, True)
+        self.assertIs(Parts([1]) == Parts([2]), False)
         self.assertIs(Paper("a") != Paper("a"), False)
         for one, other in ((Alike([(0, 0)]), Paper("alike", [(0, 0)])), (Parts([]), Denial("parts", []))):
             self.assertIs(one == other, False)

@@ -10,7 +10,7 @@ from fewvisits.kinds import Kind
 from fewvisits.makers import line
 from fewvisits.papers import Denial, Paper
 from tests.naive import NO_INTEGERS, NO_LISTS, Odd, OwnInt, OwnList, all_able, leads_to, lists_played, random_kind
-from tests.test_histories import Refusing
+from tests.refusing import Refusing
 
 FOUR = Kind(["ask"], ["a", "b"], 4, 1, [(0, 0, 1, 0), (1, 0, 0, 2), (1, 0, 1, 3), (2, 0, 0, 2), (3, 0, 0, 3)])
 
@@ -68,7 +68,7 @@ class Shows(Refusing):
     def test_bent_papers(self):
         right = [(2, 1), (2, 2), (3, 3)]
         self.assertIs(shows_alike(FOUR, 2, 1, Alike(right)), True)
-        bent = [right[:1], right[1:], [], [(2, 1)], right + [(4, 4)], right + [(-1, 0)], right + [(0,)], right + [0],
+        bent = [right[:1], right[1:], [], [(2, 1)], right + [(4, 4)], right + [(-1, 0)], right + [(-1, 3)], right + [(0,)], right + [0],
                 right + [(1, 2)], right + [(0, 0, 0)], right + [None], [(2, True), (2, 2)], right + [(2.0, 2)],
                 right + [(2, True)], right + ["22"], right + [Odd()], right + [(Odd(), 0)], right + [{2: 2}],
                 right + [([2], 2)]]

@@ -9,18 +9,11 @@ from fewvisits.kinds import Kind
 from fewvisits.makers import purse
 from tests.naive import NO_INTEGERS, NO_LISTS, Odd, OwnInt, OwnList, OwnStr, plain
 from tests.naive_deals import (done_by, ended_at, first_bad, of_deal, seen_at, some_event, some_events, unanswered)
+from tests.refusing import Refusing
 
 BANK = Kind(["take", "put"], ["done", "short", "odd"], 3, 2,
             [(0, 0, 1, 0), (0, 1, 0, 1), (1, 0, 0, 0), (1, 1, 0, 2), (2, 0, 0, 1), (2, 1, 1, 2)])
 DEALS = (0, 3, 7, 11)
-
-
-class Refusing(unittest.TestCase):
-
-    def refuses(self, error, function, *given):
-        with self.assertRaises(type(error)) as caught:
-            function(*given)
-        self.assertEqual(vars(caught.exception), vars(error))
 
 
 class Standing(Refusing):
@@ -61,7 +54,7 @@ class Standing(Refusing):
                             ("no", 1, 0), ("asked", 1, 0), ("", 1, 0), ("Ask", 1, 0), ("ask", 12, 0), ("ask", -1, 0),
                             ("ask", 1, 2), ("ask", 1, -1), ("ask", True, 0), ("ask", 1, False), ("ask", 1.0, 0),
                             ("no", 12), ("no", True), ("no", "1"), (0, 1, 0), (None, 1), (True, 1), (["ask"], 1, 0),
-                            (Odd(), 1), ("ask", Odd(), 0), ("ask", 1, Odd()), ("ask", 1, None), ("ask", 1, (0,)),
+                            ("maybe", 1), ("", 1), ("Yes", 1), (Odd(), 1), ("ask", Odd(), 0), ("ask", 1, Odd()), ("ask", 1, None), ("ask", 1, (0,)),
                             "no", ("yes", 11, None), (b"no", 1)]
         for event in wrong:
             self.refuses(BadEvents(3), History, BANK, good + [event] + [("no", 5), None])

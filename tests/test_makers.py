@@ -7,6 +7,7 @@ from fewvisits.errors import BadNumber, FewError, TooMany
 from fewvisits.kinds import Kind
 from fewvisits.makers import bag, chest, counter, line, pile, purse, shelf, tickets
 from tests.naive import NO_INTEGERS, OwnInt, plain
+from tests.refusing import Refusing
 
 
 def told_by(asks, answers, states, first, rule):
@@ -93,12 +94,7 @@ def holder_told(which, room, items):
     return told_by(words("add", items) + ["next"], ["ok", "full", "empty"] + words("i", items), lists, (), rule)
 
 
-class Makers(unittest.TestCase):
-
-    def refuses(self, error, made, *given):
-        with self.assertRaises(type(error)) as caught:
-            made(*given)
-        self.assertEqual(vars(caught.exception), vars(error))
+class Makers(Refusing):
 
     def test_purses(self):
         for most in range(1, 9):

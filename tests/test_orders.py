@@ -12,7 +12,7 @@ from fewvisits.papers import Denial, Paper
 from fewvisits.weaves import Weave, at, fits_all, last_order, order_of_all
 from tests.naive import NO_LISTS, Odd, OwnInt, OwnList, plain
 from tests.naive_deals import (bars_of, holds, leaves, orders_of, seen_at, some_events, some_woven, there)
-from tests.test_histories import Refusing
+from tests.refusing import Refusing
 
 BANK = Kind(["take", "put"], ["done", "short", "odd"], 3, 2,
             [(0, 0, 1, 0), (0, 1, 0, 1), (1, 0, 0, 0), (1, 1, 0, 2), (2, 0, 0, 1), (2, 1, 1, 2)])
@@ -290,6 +290,10 @@ class ManyThings(Refusing):
                                  Bars([[[0], 0]]), Bars([[[0]]]), Bars([[0]]), Bars([]), Bars(None), Bars([[[0], 1]] * 2),
                                  Bars([[[0], 1, 0]]), Paper("bars", (((0,), 1),)), Denial("bars", (((0,), 1),))]:
             self.assertIs(shows_order_of_all(weave, value), False)
+        for order in NO_LISTS + [[], [True], [False], [0.0], [0, 0], [1], [None], [[0]], [Odd()]]:
+            self.assertIs(shows_order_of_all(weave, Fits(order)), False)
+            self.assertIs(shows_order_of_all(Weave([COIN, GATE], events[2:]), Fits(order)), False)
+        self.assertIs(shows_order_of_all(Weave([COIN, GATE], events[2:]), Fits([OwnInt(0)])), True)
         self.assertIs(shows_order_of_all(Weave([COIN], []), Fits([])), True)
         self.assertIs(shows_order_of_all(Weave([COIN], []), Bars([])), False)
 

@@ -12,8 +12,8 @@ from fewvisits.own import Breaks, Keeps, closed_lots, keeps
 from fewvisits.papers import Denial, Paper
 from tests.naive import NO_LISTS, Odd, OwnInt, OwnList, leads_to, plain
 from tests.naive_deals import done_by, ended_at, holds, leaves, orders_of, seen_at, some_events
-from tests.test_histories import Refusing
 from tests.test_orders import bare, mild
+from tests.refusing import Refusing
 
 COINS = Kind(["put", "take"], ["ok", "none"], 3, 1,
              [(0, 0, 0, 1), (0, 1, 1, 0), (1, 0, 0, 2), (1, 1, 0, 0), (2, 0, 1, 2), (2, 1, 0, 1)])

@@ -9,17 +9,10 @@ from fewvisits.makers import bag, chest, counter, line, pile, purse, shelf, tick
 from fewvisits.plays import after, answers_to, played, reachable
 from tests.naive import (NO_INTEGERS, NO_LISTS, Odd, OwnInt, OwnList, all_able, leads_to, lists_played, plain,
                          random_kind)
+from tests.refusing import Refusing
 
 BOX = Kind(["put", "take"], ["ok", "short"], 2, 0, [(0, 0, 0, 1), (0, 1, 1, 0), (1, 0, 0, 1), (1, 1, 0, 0)])
 SEEDS = range(120)
-
-
-class Refusing(unittest.TestCase):
-
-    def refuses(self, error, function, *given):
-        with self.assertRaises(type(error)) as caught:
-            function(*given)
-        self.assertEqual(vars(caught.exception), vars(error))
 
 
 class Plays(Refusing):
@@ -67,7 +60,7 @@ class Plays(Refusing):
             self.refuses(BadNumber("state"), answers_to, BOX, value, 9)
             self.refuses(BadNumber("ask"), answers_to, BOX, 0, value)
             self.refuses(BadNumber("state"), played, BOX, value, 9)
-        for value in NO_LISTS + [[0], [(0,)], [(0, 0, 0)], [(0, 2)], [(2, 0)], [(0, -1)], [(True, 0)], [(0, False)],
+        for value in NO_LISTS + [[0], [(0,)], [(0, 0, 0)], [(0, 2)], [(2, 0)], [(0, -1)], [(-1, 0)], [(True, 0)], [(0, False)],
                                  [(0, 0), None], [(0, 0), "00"], [(0, 1.0)], (0, 0), [[[0], 0]]]:
             self.refuses(BadNumber("operations"), played, BOX, 0, value)
         # An operation that cannot be played does not hide one that is none.

@@ -10,7 +10,7 @@ from fewvisits.makers import chest, purse, tickets
 from fewvisits.weaves import Weave, at
 from tests.naive import NO_LISTS, Odd, OwnInt, OwnList, OwnStr, plain
 from tests.naive_deals import first_bad_woven, some_event, some_woven, there
-from tests.test_histories import Refusing
+from tests.refusing import Refusing
 
 BANK = Kind(["take", "put"], ["done", "short", "odd"], 3, 2,
             [(0, 0, 1, 0), (0, 1, 0, 1), (1, 0, 0, 0), (1, 1, 0, 2), (2, 0, 0, 1), (2, 1, 1, 2)])
@@ -92,7 +92,7 @@ class Standing(Refusing):
                             ("ask", 2, 1, 0), ("ask", -1, 1, 0), ("ask", True, 1, 0), ("ask", 0.0, 1, 0),
                             ("ask", None, 1, 0), ("ask", 0, 12, 0), ("ask", 0, -1, 0), ("ask", 0, True, 0),
                             ("ask", 0, 1, 2), ("ask", 1, 1, 1), ("ask", 0, 1, False), ("asks", 0, 1, 0), (0, 0, 1, 0),
-                            ("no", 0, "1"), ("no", 0, None), (Odd(), 0, 1), ("no", Odd(), 1), ("no", 0, Odd()), "no0",
+                            ("no", 0, "1"), ("no", 0, None), ("maybe", 0, 1), (Odd(), 0, 1), ("no", Odd(), 1), ("no", 0, Odd()), "no0",
                             ("no", [0], 1), (["no"], 0, 1)]
         for event in wrong:
             self.refuses(BadEvents(3), Weave, [BANK, GATE], good + [event, None])
