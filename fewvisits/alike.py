@@ -1,6 +1,7 @@
 """Which states can all that others can, and the kind that has each of alike states once."""
 
-from fewvisits.kinds import Kind, behind_of, moves_of, need_kind, need_number
+from fewvisits.checks import need_number
+from fewvisits.kinds import Kind, behind_of, moves_of, need_kind
 from fewvisits.papers import Denial, Paper
 from fewvisits.plays import ways
 

@@ -1,8 +1,8 @@
 """Checking papers on states that can all that others can."""
 
 from fewvisits.alike import Alike, Parts
-from fewvisits.checks import is_within
-from fewvisits.kinds import behind_of, moves_of, need_kind, need_number
+from fewvisits.checks import is_within, need_number
+from fewvisits.kinds import behind_of, moves_of, need_kind
 from fewvisits.plays import are_operations, lead
 
 

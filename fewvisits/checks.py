@@ -1,5 +1,7 @@
 """What integers, lots and words are, for any values."""
 
+from fewvisits.errors import BadNumber
+
 SIGNS = "abcdefghijklmnopqrstuvwxyz0123456789"
 MOST_SIGNS = 12
 
@@ -19,6 +21,17 @@ def is_within(value, least, most):
     if not is_integer(value):
         return False
     return (least is None or value >= least) and (most is None or value <= most)
+
+
+def need_within(value, least, most, part):
+    """Raises BadNumber with this part for no integer from least to most; None is no bound."""
+    if not is_within(value, least, most):
+        raise BadNumber(part)
+
+
+def need_number(value, many, part):
+    """Raises BadNumber with this part for no integer from 0 on below many."""
+    need_within(value, 0, many - 1, part)
 
 
 def is_lot(value, many):

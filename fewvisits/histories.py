@@ -1,9 +1,9 @@
 """Histories: the events of one thing."""
 
-from fewvisits.checks import is_list
+from fewvisits.checks import is_list, need_number
 from fewvisits.courses import MOST_DEALS, Course, courses_of
 from fewvisits.errors import BadEvents, BadValue
-from fewvisits.kinds import need_kind, need_number
+from fewvisits.kinds import need_kind
 from fewvisits.papers import fixed
 
 

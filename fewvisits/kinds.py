@@ -1,7 +1,7 @@
 """Kinds: how a thing answers what it is asked."""
 
 from fewvisits.checks import is_list, is_within, is_word
-from fewvisits.errors import BadKind, BadNumber, BadText
+from fewvisits.errors import BadKind, BadText
 from fewvisits.papers import fixed
 from fewvisits.texts import Reader
 
@@ -48,7 +48,7 @@ def rows_read(reader, states, asks, answers):
         if len(rows) == MOST_ROWS:
             raise BadText(reader.place)
         reader.expect("/")
-        rows.append([reader.number(0, many - 1) for many in (states, asks, answers, states)])
+        rows.append([reader.integer(0, many - 1) for many in (states, asks, answers, states)])
     return rows
 
 
@@ -98,9 +98,9 @@ class Kind:
         answers = reader.unlike_words(MOST_ANSWERS)
         reader.expect("/")
         reader.expect("states")
-        states = reader.number(1, MOST_STATES)
+        states = reader.integer(1, MOST_STATES)
         reader.expect("first")
-        first = reader.number(0, states - 1)
+        first = reader.integer(0, states - 1)
         rows = rows_read(reader, states, len(asks), len(answers))
         if not are_whole(rows, states, len(asks)):
             raise BadText(reader.place - 1)
@@ -111,12 +111,6 @@ def need_kind(kind):
     """Raises BadKind for no kind."""
     if not isinstance(kind, Kind):
         raise BadKind("kind")
-
-
-def need_number(value, many, part):
-    """Raises BadNumber with this part for no integer from 0 on below many."""
-    if not is_within(value, 0, many - 1):
-        raise BadNumber(part)
 
 
 def is_operation(kind, value):

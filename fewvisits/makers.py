@@ -1,14 +1,8 @@
 """Kinds that are made: purses, tickets, counters, chests, shelves, lines, piles and bags."""
 
-from fewvisits.checks import is_within
-from fewvisits.errors import BadNumber, TooMany
+from fewvisits.checks import need_within
+from fewvisits.errors import TooMany
 from fewvisits.kinds import MOST_STATES, Kind
-
-
-def need_within(value, least, most, part):
-    """Raises BadNumber with this part for no integer from least to most."""
-    if not is_within(value, least, most):
-        raise BadNumber(part)
 
 
 def numbered(word, many):

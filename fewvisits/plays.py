@@ -1,8 +1,8 @@
 """Playing operations of a kind from a state."""
 
-from fewvisits.checks import is_list
+from fewvisits.checks import is_list, need_number
 from fewvisits.errors import BadNumber
-from fewvisits.kinds import behind_of, is_operation, moves_of, need_kind, need_number
+from fewvisits.kinds import behind_of, is_operation, moves_of, need_kind
 
 
 def after(kind, state, ask, answer):

@@ -32,28 +32,46 @@ class Reader:
 
     def sees(self, mark):
         """Whether the next item is there and is this one."""
-        return not self.done() and self.told[self.place] == mark
+        return self.ahead() == mark
+
+    def ahead(self):
+        """The next item, None behind the last one."""
+        return None if self.done() else self.told[self.place]
+
+    def refuse(self):
+        """Raises BadText at the next item, be it there or missing."""
+        raise BadText(self.place)
+
+    def skip(self):
+        """Goes on behind the next item, and returns it."""
+        self.place = self.place + 1
+        return self.told[self.place - 1]
 
     def expect(self, mark):
         """Reads just this item."""
         if not self.sees(mark):
-            raise BadText(self.place)
-        self.place = self.place + 1
+            self.refuse()
+        self.skip()
+
+    def any_word(self):
+        """Reads a word."""
+        if not is_word(self.ahead()):
+            self.refuse()
+        return self.skip()
 
     def unlike_words(self, most):
         """Reads one to most unlike words, up to a bar; with most of them the next item is not looked at."""
         found = []
         while not found or (len(found) < most and not self.sees("/")):
-            if self.done() or not is_word(self.told[self.place]) or self.told[self.place] in found:
-                raise BadText(self.place)
-            found.append(self.told[self.place])
-            self.place = self.place + 1
+            if self.ahead() in found:
+                self.refuse()
+            found.append(self.any_word())
         return found
 
-    def number(self, least, most):
+    def integer(self, least, most):
         """Reads an integer from least to most."""
         told = None if self.done() else number_told(self.told[self.place])
         if told is None or not least <= told <= most:
-            raise BadText(self.place)
-        self.place = self.place + 1
+            self.refuse()
+        self.skip()
         return told

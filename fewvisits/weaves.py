@@ -1,10 +1,10 @@
 """Weaves: the events of several things, in the order in which they came."""
 
-from fewvisits.checks import is_list, is_within
+from fewvisits.checks import is_list, is_within, need_number
 from fewvisits.courses import MOST_EVENTS, Course, is_event
 from fewvisits.errors import BadEvents, BadKind, BadOrder, BadValue, TooMany
 from fewvisits.histories import History
-from fewvisits.kinds import Kind, need_number
+from fewvisits.kinds import Kind
 from fewvisits.orders import Bars, Fits
 from fewvisits.papers import fixed
 from fewvisits.searches import is_order, least_order, leads_of, need_few, step

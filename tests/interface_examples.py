@@ -134,3 +134,107 @@ CHECK_OWN = """\
 >>> [shows_keeps(gives, Keeps(rooms)) for rooms in ([[[], [1]], [[0], [2]], [[2], [0]], [[0, 2], [0, 1, 2]]], [[[], [1, 2]], [[0], [2]], [[2], [0]], [[0, 2], [1]]])]
 [True, False]
 """
+
+JOINS = """\
+>>> ann = [("ask", 0, 0, 0), ("answer", 0, 0, 0), ("ask", 1, 0, 0), ("answer", 1, 0, 0), ("ready", 0, 0), ("ready", 1, 0), ("yes", 0, 0), ("yes", 1, 0)]
+>>> calm = Weave([purse_of_one, gate], ann + [("ask", 0, 1, 0), ("answer", 0, 1, 1), ("ask", 1, 1, 0), ("answer", 1, 1, 1), ("ready", 0, 1), ("ready", 1, 1), ("yes", 1, 1)])
+>>> [joined(calm) == Fits([0, 1]), joined(both) == Lax(0, [1, 0])]
+[True, True]
+>>> [shows_joined(calm, value) for value in (Fits([0, 1]), Fits([1, 0]), Lax(0, [0, 1]))]
+[True, False, False]
+"""
+
+BESIDES = """\
+>>> put, take, short = (0, 0), (1, 0), (1, 1)
+>>> [goes_beside(box, take, take).parts, goes_beside(box, one=take, other=put).parts, goes_beside(box, short, put).before]
+[(((0, 0),), (1, 0), (1, 0), ()), (((0, 0),), (0, 0), (1, 0), ((1, 0),)), ()]
+>>> beside_table(box) == ((put, take), (put, short), (take, put), (take, take), (short, put))
+True
+>>> goes_beside(box, (2, 0), put)
+raises BadNumber('one')
+"""
+
+CHECK_BESIDES = """\
+>>> [shows_beside(box, put, take, Jars([put], take, put, [short])), shows_beside(box, put, take, Jars([put], put, take, [short])), shows_beside(box, short, short, Goes((0, 1), [(0, 0), (1, 1)]))]
+[True, False, True]
+"""
+
+DISKS = """\
+>>> disk = Disk(5)
+>>> [disk.write(2, [7, 8]), disk.write(3, (9,)), disk.write(2, [4])]
+[None, None, None]
+>>> [disk.waiting(), disk.look(2), disk.look(at=3), disk.kept()]
+[3, (4,), (9,), ((), (), (), (), ())]
+>>> [disk.cut([0], torn=[1]), disk.waiting(), disk.kept()]
+[None, 0, ((), (), (7, 8), (), ())]
+>>> [disk.fuse(2), disk.write(4, [1])]
+[None, None]
+>>> disk.flush()
+raises Out()
+>>> [disk.waiting(), disk.no_fuse(), disk.flush(), disk.kept()[4]]
+[1, None, None, (1,)]
+>>> disk.cut([0])
+raises BadLot('lands')
+"""
+
+JOURNALS = """\
+>>> disk = Disk(6)
+>>> journal = Journal(disk)
+>>> [journal.put([5]), journal.put(record=(6, 7)), journal.records(), journal.sure, journal.room]
+[None, None, ((5,), (6, 7)), 0, 0]
+>>> [meant(disk), journal.force(), meant(disk), journal.sure]
+[(1, 0, ()), None, (1, 0, ((5,), (6, 7))), 2]
+>>> [journal.sweep(9, records=[[1, 2]]), journal.base, meant(disk), journal.room]
+[None, 9, (1, 9, ((1, 2),)), 1]
+>>> disk.kept()
+((2, 1, 1, 1, 9), (1, 1, 0, 0, 0), (0, 1, 0, 5), (0, 1, 1, 6, 7), (1, 1, 0, 1, 2), ())
+>>> journal.sweep(0, [[1], [2], [3]])
+raises Full('journal')
+>>> disk = Disk(8)
+>>> journal = Journal(disk)
+>>> [journal.put([1]), journal.force(), journal.put([2]), journal.put([3]), disk.cut([1]), meant(disk)]
+[None, None, None, None, None, (1, 0, ((1,),))]
+>>> again = Journal(disk)
+>>> [again.life, again.put([4]), again.force(), meant(disk), disk.kept()[2:5]]
+[2, None, None, (2, 0, ((1,), (4,))), ((0, 1, 0, 1), (0, 2, 1, 4), (0, 1, 2, 3))]
+"""
+
+THINGS = """\
+>>> SEATS = "number left 0 2 2 / ask take : when yes answer done set left - left 1 : when yes answer none / ask back : when yes answer done set left + left 1 : when yes answer full"
+>>> seats = Thing(SEATS)
+>>> [seats.fields, seats.asks, seats.first, str(seats) == SEATS, seats.is_state((3,)), seats.is_state([0])]
+[('left',), ('take', 'back'), (2,), True, False, True]
+>>> [seats.given((2,), 0), seats.given((2,), 1), seats.given((0,), 0), seats.is_so("or = left 0 < 1 left", (1,))]
+[(('done', (1,)),), (('full', (2,)),), (('none', (0,)),), False]
+>>> jobs = Thing("line jobs 2 2 / ask add 0 1 : when yes answer ok push jobs it : when yes answer full / ask next : when yes answer i front jobs shift jobs : when yes answer empty")
+>>> [jobs.asks, jobs.given(((1, 0),), 2), jobs.given(((),), 2), jobs.given(((1, 0),), 0), jobs.is_so("not = front jobs 1", ((),))]
+[('add0', 'add1', 'next'), (('i1', ((0,),)),), (('empty', ((),)),), (('full', ((1, 0),)),), False]
+>>> sack = Thing("lot kept 2 / ask put 0 1 : when not has kept it answer ok put kept it : when yes answer there / ask get : pick 0 1 has kept one answer i one drop kept one : when = size kept 0 answer empty")
+>>> [sack.given(((0, 1),), 2), sack.given(((),), 2), sack.given(((1,),), 1)]
+[(('i0', ((1,),)), ('i1', ((0,),))), (('empty', ((),)),), (('there', ((1,),)),)]
+>>> Thing("number left 0 2 3 / ask take : when yes answer done")
+raises BadText(4)
+>>> Thing("ask take : when < it 1 answer done")
+raises BadText(5)
+>>> Thing("ask take")
+raises BadText(2)
+"""
+
+TONGUE = """\
+>>> seated = made(seats)
+>>> [str(seated.kind), seated.states]
+['asks take back / answers done full none / states 3 first 0 / 0 0 0 1 / 0 1 1 0 / 1 0 0 2 / 1 1 0 0 / 2 0 2 2 / 2 1 0 1', ((2,), (1,), (0,))]
+>>> rising = Thing("number n 0 1 0 / ask up : when yes answer ok set n + n 1")
+>>> [made(rising).parts, made(sack).states, made(jobs).kind.answers]
+[((('up', 'ok'),), 'up'), (((),), ((0,),), ((1,),), ((0, 1),)), ('empty', 'full', 'i0', 'i1', 'ok')]
+>>> [always(seats, "< left 3").states, always(seats, "not = left 0").parts]
+[((2,), (1,), (0,)), ((('take', 'done'), ('take', 'done')),)]
+>>> gone = Thing("number gone 0 2 0 / ask take : when yes answer done set gone + gone 1 : when yes answer none / ask back : when yes answer done set gone - gone 1 : when yes answer full")
+>>> lone = Thing("number left 0 1 1 / ask take : when yes answer done set left - left 1 : when yes answer none / ask back : when yes answer done set left + left 1 : when yes answer full")
+>>> [same(seats, gone).pairs, same(seats, lone).parts]
+[((0, 0), (1, 1), (2, 2)), ((('take', 'done'), ('take', 'done')), 0)]
+>>> [str(told(made(lone).kind)), bool(same(lone, told(made(lone).kind)))]
+['number at 0 1 0 / ask take : may = at 0 answer done set at 1 : may = at 1 answer none set at 1 / ask back : may = at 0 answer full set at 0 : may = at 1 answer done set at 0', True]
+>>> always(rising, "yes")
+raises Impossible(Silent((('up', 'ok'),), 'up'))
+"""

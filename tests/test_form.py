@@ -162,6 +162,12 @@ class Form(unittest.TestCase):
         for name in assigned:
             self.assertFalse([names for names in plain_values if name in names], name)
 
+    def test_no_name_is_a_method_and_an_attribute(self):
+        methods = {name.name for _, node in all_nodes(ast.ClassDef) for name in node.body
+                   if isinstance(name, ast.FunctionDef)}
+        assigned = {node.attr for _, node in all_nodes(ast.Attribute) if isinstance(node.ctx, ast.Store)}
+        self.assertFalse(methods & assigned)
+
     def test_is(self):
         for path, node in all_nodes(ast.Compare):
             for sign, right in zip(node.ops, node.comparators):

@@ -1,0 +1,134 @@
+"""Each function raises the error of its first wrong parameter, by place and by name, whatever stands behind it."""
+
+from fewvisits import (alike, besides, check_alike, check_besides, check_orders, check_own, disks, histories, joins, journals,
+                       kinds, makers, orders, own, plays, things, tongue, weaves)
+from fewvisits.errors import (BadEvents, BadKind, BadLog, BadLot, BadNumber, BadOrder, BadText, BadValue)
+from tests.naive import Odd
+from tests.refusing import Refusing
+
+BOX = kinds.Kind(["put", "take"], ["ok", "short"], 2, 0, [(0, 0, 0, 1), (0, 1, 1, 0), (1, 0, 0, 1), (1, 1, 0, 0)])
+HISTORY = histories.History(BOX, [("ready", 3), ("yes", 3)])
+WEAVE = weaves.Weave([BOX], [("ready", 0, 3), ("yes", 0, 3)])
+THING = things.Thing("number n 0 2 0 / ask go : when yes answer ok")
+
+NO_NUMBER = [True, False, None, -1, 99, "0", [0], 0.0, Odd()]
+NO_LIST = [None, 7, "ab", {}, Odd()]
+KIND = ("kind", BOX, BadKind("kind"), [None, BOX.rows, "kind", Odd()])
+
+
+def value_of(name, right):
+    return (name, right, BadValue(name), [None, BOX, "text", Odd()])
+
+
+def number(name, right, wrong=()):
+    return (name, right, BadNumber(name), NO_NUMBER + list(wrong))
+
+
+def operation(name):
+    return (name, [1, 0], BadNumber(name), NO_LIST + [(2, 0), (0, 2), (True, 0), (0, False), (0,), (0, 0, 0), ()])
+
+
+def operations(name):
+    return (name, [(1, 1)], BadNumber(name), NO_LIST + [[(2, 0)], [(0, 0), (0, True)], [0, 0], [None]])
+
+
+HISTORY_FIRST = value_of("history", HISTORY)
+WEAVE_FIRST = value_of("weave", WEAVE)
+ORDER = ("order", [3], BadOrder("order"), NO_LIST + [[], [3, 3], [True], [2]])
+# A value of any kind, for the functions that tell whether it is a right paper.
+ANY = ("value", None, None, [])
+EVENTS = ("events", [], BadEvents(0), NO_LIST)
+
+PLAIN = [
+    (kinds.Kind, [("asks", ["a"], BadKind("asks"), NO_LIST), ("answers", ["b"], BadKind("answers"), NO_LIST),
+                  ("states", 1, BadKind("states"), NO_NUMBER), ("first", 0, BadKind("first"), NO_NUMBER),
+                  ("rows", [(0, 0, 0, 0)], BadKind("rows"), NO_LIST)]),
+    (kinds.Kind.read, [("text", str(BOX), BadText(0), [None, 7, b"asks", Odd()])]),
+    (kinds.is_sure, [KIND]), (kinds.operations_of, [KIND]),
+    (plays.after, [KIND, number("state", 0), number("ask", 1), number("answer", 1)]),
+    (plays.answers_to, [KIND, number("state", 0), number("ask", 1)]),
+    (plays.played, [KIND, number("state", 0), operations("operations")]), (plays.reachable, [KIND]),
+    (makers.purse, [number("most", 3), number("first", 1)]), (makers.tickets, [number("many", 2)]),
+    (makers.counter, [number("most", 2)]), (makers.chest, [number("items", 2)]),
+    (makers.shelf, [number("worths", 2), number("first", 1)])] + [
+    (made, [number("room", 2), number("items", 2)]) for made in (makers.line, makers.pile, makers.bag)] + [
+    (alike.can_as, [KIND, number("one", 0), number("other", 1)]), (alike.alike_classes, [KIND]),
+    (alike.way_to, [KIND, number("state", 1)]), (alike.reduced, [KIND]),
+    (check_alike.shows_alike, [KIND, number("one", 0), number("other", 1), ANY]),
+    (histories.History, [KIND, EVENTS]),
+    (histories.operations, [HISTORY_FIRST, number("deal", 3)]), (histories.waiting, [HISTORY_FIRST, number("deal", 3)]),
+    (histories.seen_of, [HISTORY_FIRST]), (orders.holds_seen, [HISTORY_FIRST, ORDER]), (orders.left_by, [HISTORY_FIRST, ORDER]),
+    (orders.fits, [HISTORY_FIRST, ORDER]), (orders.order_for, [HISTORY_FIRST]),
+    (weaves.Weave, [("kinds", [BOX], BadKind("kinds"), NO_LIST + [[], [None], [BOX] * 5]), EVENTS]),
+    (weaves.at, [WEAVE_FIRST, number("thing", 0)]), (weaves.last_order, [WEAVE_FIRST]),
+    (weaves.fits_all, [WEAVE_FIRST, ORDER]), (weaves.order_of_all, [WEAVE_FIRST]),
+    (check_orders.shows_order, [HISTORY_FIRST, ANY]), (check_orders.shows_order_of_all, [WEAVE_FIRST, ANY]),
+    (own.closed_lots, [HISTORY_FIRST]), (own.keeps, [HISTORY_FIRST]), (check_own.shows_keeps, [HISTORY_FIRST, ANY])]
+
+JOINED = [
+    (joins.joined, [WEAVE_FIRST]), (joins.shows_joined, [WEAVE_FIRST, ANY]),
+    (besides.goes_beside, [KIND, operation("one"), operation("other")]), (besides.beside_table, [KIND]),
+    (check_besides.shows_beside, [KIND, operation("one"), operation("other"), ANY])]
+
+
+def filled_disk():
+    disk = disks.Disk(4)
+    disk.write(0, [1])
+    return disk
+
+
+def new_journal():
+    return journals.Journal(disks.Disk(8))
+
+
+def of_new(make, name):
+    """A method of an object that is made anew for each call."""
+    return lambda *given, **named: getattr(make(), name)(*given, **named)
+
+
+BLOCK = ("block", [1], BadNumber("block"), NO_LIST + [[1] * 9, [True], [None]])
+RECORD = ("record", [1], BadNumber("record"), NO_LIST + [[1] * 6, [True], [None]])
+LOT_WRONG = NO_LIST + [[1], [0, 0], [True], [-1]]
+CONDITION = ("condition", "yes", BadText(0), [None, 7, "no", "", Odd()])
+STATE = ("state", (0,), BadValue("state"), NO_LIST + [(), (3,), (True,), ((),), (0, 0)])
+
+KEEPING = [
+    (disks.Disk, [("many", 4, BadNumber("many"), [True, None, 3, 257, Odd()])]),
+    (of_new(filled_disk, "write"), [number("at", 0), BLOCK]),
+    (of_new(filled_disk, "cut"), [("lands", [0], BadLot("lands"), LOT_WRONG),
+                                  ("torn", [], BadLot("torn"), LOT_WRONG)]),
+    (of_new(filled_disk, "fuse"), [("many", 1, BadNumber("many"), [0, True, None, Odd()])]),
+    (of_new(filled_disk, "look"), [number("at", 0)]),
+    (journals.Journal, [value_of("disk", filled_disk())]),
+    (journals.meant, [value_of("disk", filled_disk())]),
+    (of_new(new_journal, "put"), [RECORD]),
+    (of_new(new_journal, "sweep"), [("base", 0, BadNumber("base"), [True, None, "0", Odd()]),
+                                    ("records", [[1]], BadLog("records"), NO_LIST + [[None], [[1] * 6], [1]])]),
+    (things.Thing, [("text", str(THING), BadText(0), [None, 7, "no", Odd()])]),
+    (things.Thing.read, [("text", str(THING), BadText(0), [None, 7, "no", Odd()])]),
+    (THING.given, [STATE, number("ask", 0)]),
+    (THING.is_so, [CONDITION, STATE]),
+    (tongue.made, [value_of("thing", THING)]),
+    (tongue.always, [value_of("thing", THING), CONDITION]),
+    (tongue.same, [value_of("one", THING), value_of("other", THING)]),
+    (tongue.told, [KIND])]
+
+
+class Arguments(Refusing):
+
+    def check(self, function, parameters):
+        names = [name for name, _, _, _ in parameters]
+        rights = [right for _, right, _, _ in parameters]
+        for way in (lambda given: function(*given), lambda given: function(**dict(list(zip(names, given))[::-1]))):
+            way(rights)
+            for place, (_, _, error, wrong) in enumerate(parameters):
+                behind = [(told[3] or [None])[0] for told in parameters[place + 1:]]
+                for value in wrong:
+                    self.refuses(error, way, rights[:place] + [value] + rights[place + 1:])
+                    self.refuses(error, way, rights[:place] + [value] + behind)
+                    self.refuses(error, way, rights[:place] + [value] + [Odd() for _ in behind])
+
+    def test_all(self):
+        for function, parameters in PLAIN + JOINED + KEEPING:
+            with self.subTest(function=function.__qualname__, parameters=[name for name, _, _, _ in parameters]):
+                self.check(function, parameters)
