@@ -238,3 +238,76 @@ TONGUE = """\
 >>> always(rising, "yes")
 raises Impossible(Silent((('up', 'ok'),), 'up'))
 """
+
+CHECK_THINGS = """\
+>>> [shows_made(seats, Made(seated.kind, seated.states)), shows_made(rising, Silent([("up", "ok")], "up")), shows_made(seats, Silent([], "take"))]
+[True, True, False]
+>>> [shows_always(seats, "< left 3", Always([(0,), (2,), (1,)])), shows_always(seats, "< left 3", Always([(2,)])), shows_always(seats, "not = left 0", Sometimes([("back", "full"), ("take", "done"), ("take", "done")]))]
+[True, False, True]
+>>> [shows_same(seats, gone, Same([(2, 2), (0, 0), (1, 1)])), shows_same(seats, lone, Unlike([("take", "done"), ("take", "none")], 1)), shows_same(seats, gone, Same([(0, 0)]))]
+[True, True, False]
+"""
+
+UNNOTICED = """\
+>>> box = Kind(["put", "take"], ["ok", "short"], 2, 0, [(0, 0, 0, 1), (0, 1, 1, 0), (1, 0, 0, 1), (1, 1, 0, 0)])
+>>> put, take, short = (0, 0), (1, 0), (1, 1)
+>>> [able_pairs(box, []), able_pairs(box, [put]), able_pairs(box, by=[short, put])]
+[((0, 0), (0, 1), (1, 0), (1, 1)), ((0, 0), (0, 1), (1, 0), (1, 1)), ((0, 0), (1, 0), (1, 1))]
+>>> [unnoticed(box, put, [put, take]).parts, unnoticed(box, put, [put, short]).parts, unnoticed(box, take, by=[take]).parts]
+[((0, 1), ((0, 0), (0, 1), (1, 1))), ((), ((1, 1),)), (((0, 0),), ((1, 0),))]
+>>> unnoticed(box, (2, 0), [])
+raises BadNumber('operation')
+"""
+
+SPREADS = """\
+>>> few = Spread(box, 3, [(0, 0, 1, 1), (1, 0, 3, 1), (1, 1, 3, 0)])
+>>> [visits_of(few, 1, 0), notes_of(few, ask=1, answer=1), missing(few, 0, 0), missing(few, 1, 1), going(few, 2)]
+[3, 0, ((0, 0),), ((0, 0), (1, 0), (1, 1)), ((0, 0),)]
+>>> Spread(box, 3, [(0, 0, 1, 2), (1, 0, 3, 1), (1, 1, 3, 0)])
+raises BadSpread('rows')
+>>> visits_of(few, 0, 1)
+raises Misfit('operation')
+"""
+
+SPREAD_LOGS = """\
+>>> all_three = (0, 1, 2)
+>>> one_in = [("do", 0, 0, 0, 0, (2,), (2,), ()), ("ready", 0), ("yes", 0)]
+>>> [sight(few, one_in, 1, (0, 1)), sight(few, one_in, 1, (1, 2)), view_of(few, one_in, 1, ()), view_of(few, one_in, 1, [(0, 1)])]
+[(), ((0, 1),), 0, 1]
+>>> [do_for(few, one_in, 1, 1, all_three), do_for(few, one_in, 1, ask=1, visited=[0, 1])]
+[('do', 1, 1, 0, 1, (0, 1, 2), (0,), ((0, 1),)), None]
+>>> [fault_of(few, one_in, ("do", 1, 1, 1, 1, all_three, (), ())), fault_of(few, one_in, ("do", 1, 1, 1, 0, (0, 1), (), ()))]
+['seen', 'few']
+>>> both = one_in + [("do", 1, 0, 0, 0, (0,), (0,), ())]
+>>> [fault_of(few, both, ("do", 2, 1, 0, 1, all_three, (0,), [(0, 1)])), fault_of(few, both, ("do", 2, 0, 0, 0, (0,), (0,), ()))]
+['barred', 'date']
+>>> [fault_of(few, one_in, ("do", 1, 1, 1, 1, all_three, (), [(0, 1)])), first_stray(few, both), history_of(few, both).opened]
+['view', None, (1,)]
+>>> sight(few, one_in, 0, all_three)
+raises BadNumber('deal')
+"""
+
+RIGHT = """\
+>>> is_right(few).parts
+((0, 1), ((0, 0), (1, 1)), ((), (), ((0, 1), (1, 0), (1, 1)), ((0, 0), (1, 1))))
+>>> loose = Spread(box, 3, [(0, 0, 2, 1), (1, 0, 2, 2), (1, 1, 2, 0)])
+>>> apart = Spread(box, 3, [(0, 0, 1, 1), (1, 0, 2, 2), (1, 1, 3, 0)])
+>>> [is_right(loose) == Missed((), put, [short]), is_right(apart).parts]
+[True, (((0, 0),), (0, 0), (1, 0), ((1, 0),))]
+"""
+
+LEAST_NOTES = """\
+>>> [notes_for(box, 3, [1, 2, 3]), unmet_pairs(box, 3, [1, 2, 3]), notes_for(box, 3, [1, 1, 1])]
+[(1, 2, 0), (((0, 0), (1, 0)),), (None, None, 0)]
+>>> [majority(box, 3).rows, majority(box, sites=1).rows]
+[((0, 0, 2, 2), (1, 0, 2, 2), (1, 1, 2, 0)), ((0, 0, 1, 1), (1, 0, 1, 1), (1, 1, 1, 0))]
+>>> notes_for(box, 3, [1, 2])
+raises BadNumber('visits')
+"""
+
+CHECK_RIGHT = """\
+>>> [shows_unnoticed(box, put, [take], Unnoticed([0, 1], [[1, 1], [0, 1], (0, 0)])), shows_unnoticed(box, put, [take], Unnoticed([0, 1], [[0, 1]]))]
+[True, False]
+>>> [shows_right(few, is_right(few)), shows_right(few, is_right(loose)), shows_right(loose, Missed([put, take], put, [short])), shows_right(apart, Unmet([put], put, take, [take]))]
+[True, False, True, True]
+"""

@@ -1,8 +1,9 @@
 """Each function raises the error of its first wrong parameter, by place and by name, whatever stands behind it."""
 
-from fewvisits import (alike, besides, check_alike, check_besides, check_orders, check_own, disks, histories, joins, journals,
-                       kinds, makers, orders, own, plays, things, tongue, weaves)
-from fewvisits.errors import (BadEvents, BadKind, BadLog, BadLot, BadNumber, BadOrder, BadText, BadValue)
+from fewvisits import (alike, besides, check_alike, check_besides, check_orders, check_own, check_right, check_things, disks,
+                       histories, joins, journals, kinds, least_notes, makers, orders, own, plays, right, spread_logs, spreads,
+                       things, tongue, unnoticed, weaves)
+from fewvisits.errors import (BadEvents, BadKind, BadLog, BadLot, BadNumber, BadOrder, BadSpread, BadText, BadValue)
 from tests.naive import Odd
 from tests.refusing import Refusing
 
@@ -113,6 +114,35 @@ KEEPING = [
     (tongue.same, [value_of("one", THING), value_of("other", THING)]),
     (tongue.told, [KIND])]
 
+ROWS = [(0, 0, 1, 1), (1, 0, 2, 1), (1, 1, 2, 0)]
+SPREAD = ("spread", spreads.Spread(BOX, 2, ROWS), BadSpread("spread"), [None, BOX, ROWS, Odd()])
+ROWS_WRONG = NO_LIST + [[], ROWS[:2], ROWS[::-1], [(0, 0, 1, 2)] + ROWS[1:], [(0, 0, True, 1)] + ROWS[1:]]
+DO = ("do", 1, 0, 0, 0, (0,), (0,), ())
+LOG = ("log", [DO], BadLog("log"), NO_LIST + [[None], [DO[:7]], [("yes", 1)], [DO, ("ready", 1), DO]])
+DEAL = ("deal", 1, BadNumber("deal"), [True, None, -1, 12, "1", Odd()])
+VISITED = ("visited", [0], BadLot("visited"), NO_LIST + [[], [2], [0, 0], [True]])
+BY = ("by", [(0, 0)], BadNumber("by"), NO_LIST + [[(2, 0)], [(0, True)], [None]])
+VISITS = ("visits", [1, 2, 2], BadNumber("visits"), NO_LIST + [[], [1, 2], [1, 2, 3], [True, 1, 1], [0, 1, 1]])
+SITES = ("sites", 2, BadNumber("sites"), [True, None, 0, 6, Odd()])
+
+SPREADING = [
+    (check_things.shows_made, [value_of("thing", THING), ANY]),
+    (check_things.shows_always, [value_of("thing", THING), CONDITION, ANY]),
+    (check_things.shows_same, [value_of("one", THING), value_of("other", THING), ANY]),
+    (unnoticed.able_pairs, [KIND, BY]), (unnoticed.unnoticed, [KIND, operation("operation"), BY]),
+    (spreads.Spread, [KIND, SITES, ("rows", ROWS, BadSpread("rows"), ROWS_WRONG)]),
+    (spreads.going, [SPREAD, number("up", 2)]),
+    (spread_logs.plain_log, [SPREAD, LOG]), (spread_logs.history_of, [SPREAD, LOG]), (spread_logs.first_stray, [SPREAD, LOG]),
+    (spread_logs.sight, [SPREAD, LOG, DEAL, VISITED]),
+    (spread_logs.view_of, [SPREAD, LOG, DEAL, ("seen", [], BadLot("seen"), NO_LIST + [[(0, 1)], [None], [(1, 1)]])]),
+    (spread_logs.fault_of, [SPREAD, LOG, ("record", DO, BadLog("record"), NO_LIST + [("ready", 1), DO[:7], DO[:7] + (None,)])]),
+    (spread_logs.do_for, [SPREAD, LOG, DEAL, number("ask", 0), VISITED]),
+    (right.is_right, [SPREAD]), (check_right.shows_right, [SPREAD, ANY]),
+    (check_right.shows_unnoticed, [KIND, operation("operation"), BY, ANY]),
+    (least_notes.unmet_pairs, [KIND, SITES, VISITS]), (least_notes.notes_for, [KIND, SITES, VISITS]),
+    (least_notes.majority, [KIND, SITES])] + [
+    (told, [SPREAD, number("ask", 0), number("answer", 0)]) for told in (spreads.visits_of, spreads.notes_of, spreads.missing)]
+
 
 class Arguments(Refusing):
 
@@ -129,6 +159,6 @@ class Arguments(Refusing):
                     self.refuses(error, way, rights[:place] + [value] + [Odd() for _ in behind])
 
     def test_all(self):
-        for function, parameters in PLAIN + JOINED + KEEPING:
+        for function, parameters in PLAIN + JOINED + KEEPING + SPREADING:
             with self.subTest(function=function.__qualname__, parameters=[name for name, _, _, _ in parameters]):
                 self.check(function, parameters)

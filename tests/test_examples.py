@@ -9,7 +9,7 @@ from tests import interface_examples
 # In the order of the document, as later sections use the names that earlier ones made.
 SECTIONS = ["checks", "papers", "kinds", "plays", "makers", "alike", "check_alike", "histories", "orders", "weaves",
             "check_orders", "own", "check_own", "joins", "besides", "check_besides", "disks", "journals", "things",
-            "tongue"]
+            "tongue", "check_things", "unnoticed", "spreads", "spread_logs", "right", "least_notes", "check_right"]
 
 
 def names_of(module):
