@@ -53,8 +53,7 @@ def is_made(thing, kind, states):
         return False
     told = [(number, ask, kind.answers[answer], behind) for number, ask, answer, behind in kind.rows]
     given = rows_among(thing, states)
-    # A number that is not there cannot be sorted; a kind has none.
-    if None in [row[3] for row in given] or sorted(told) != sorted(given):
+    if sorted(told) != sorted(given):
         return False
     words = {row[2]: True for row in given}
     return list(kind.answers) == sorted(list(words)) and len(ways(kind)) == kind.states

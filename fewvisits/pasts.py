@@ -69,14 +69,12 @@ class Past:
 
     def put(self, record):
         """Lets a record come, which can."""
-        course = self.courses[record[1]]
+        # A do is an ask and its answer at once: what may come behind it is what might come ahead of it.
         if record[0] == "do":
-            course.put(("ask", record[1], record[2]), self.length)
-            course.put(("answer", record[1], record[3]), self.length + 1)
             self.dos[record[1]].append(Do(record))
             self.length = self.length + 2
         else:
-            course.put(record, self.length)
+            self.courses[record[1]].put(record, self.length)
             self.length = self.length + 1
 
     def is_new(self, deal):

@@ -10,7 +10,7 @@ from fewvisits.plays import are_operations, lead
 
 def is_closed_lot(kind, value):
     """Whether it is a lot of states, the first one and with each one all next ones among them."""
-    if not isinstance(value, tuple) or not is_lot(value, kind.states) or kind.first not in value:
+    if not is_lot(value, kind.states) or kind.first not in value:
         return False
     return all([move[2] in value for state in value for move in moves_of(kind, state)])
 

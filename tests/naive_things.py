@@ -392,7 +392,7 @@ class Maker:
         for name in dice.sample(["n", "left", "row", "kept"], dice.randrange(4)):
             shape = dice.choice(FIELD_WORDS)
             low = dice.choice([-1, 0, 0])
-            rest = {"number": f"{low} {low + dice.randrange(3)} {low}", "line": f"{dice.choice([1, 2])} 2",
+            rest = {"number": f"{low} {low + dice.randrange(3)} {low}", "line": f"{dice.choice([1, 2, 3])} {dice.choice([2, 3])}",
                     "lot": f"{dice.choice([1, 2])}"}[shape]
             self.fields[name] = shape
             parts.append(f"{shape} {name} {rest}")

@@ -64,7 +64,7 @@ class ShowsMade(Refusing):
                 wanted = state is not None and not thing.given(state, thing.asks.index(ask))
                 found[wanted] = found.get(wanted, 0) + 1
                 self.assertIs(shows_made(thing, Silent([list(move) for move in moves], ask)), wanted)
-        self.assertGreater(min(found.values()), 100)
+        self.assertGreater(min(found.values()), 50)
 
     def bent(self, dice, thing, paper):
         """A Made with one thing changed is right no more."""
@@ -261,7 +261,8 @@ class ShowsSame(Refusing):
         other = Thing(SEATS.replace("number left 0 2 2", "number left -1 1 1"))
         self.assertIs(shows_same(SEATED, other, Same([(0, 0), (1, 1), (2, 2)])), True)
         right = [(0, 0), (1, 1), (2, 2)]
-        for pairs in NO_LISTS + [[], right[:2], right[1:], right + right[:1], right + [(0, 1)], right + [(3, 3)], right + [(-1, 0)],
+        for pairs in NO_LISTS + [[], right[:2], right[1:], right + right[:1], right + [(0, 1)], right + [(3, 3)], right + [(3, 0)], right + [(0, 3)],
+                                 right + [(-1, 0)], right + [(-1, 2)], right + [(2, -1)],
                                  [(0, 0), (1, True), (2, 2)], [(0.0, 0), (1, 1), (2, 2)], right + [None], right + [(1,)],
                                  right + [(0, 0, 0)], right + [Odd()], right + [(0, Odd())], [0, 1, 2]]:
             self.assertIs(shows_same(SEATED, other, Same(pairs)), False)

@@ -70,8 +70,8 @@ class Joined(Refusing):
         weave = Weave([COIN] * 3, two)
         self.assertEqual(joined(weave), Lax(1, (1, 0)))
         self.assertIs(shows_joined(weave, Lax(2, (1, 0))), True)
-        self.assertIs(shows_joined(weave, Lax(0, ())), False)
-        self.assertIs(shows_joined(weave, Lax(0, (1, 0))), False)
+        for thing, order in ((0, ()), (0, (1, 0)), (-1, (1, 0)), (-2, (1, 0)), (3, (1, 0)), (True, (1, 0)), (2.0, (1, 0))):
+            self.assertIs(shows_joined(weave, Lax(thing, order)), False)
 
     def test_no_events(self):
         weave = Weave([BANK, COIN], [])

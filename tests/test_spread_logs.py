@@ -291,6 +291,7 @@ class Wrong(Refusing):
             for value in values:
                 wrong.append(right[:place] + (value,) + right[place + 1:])
         wrong.append(right[:2] + (0, 1) + right[4:])
+        wrong.append(right[:5] + ((), ()) + right[7:])
         wrong.append(right[:5] + ((0, 1), (2,)) + right[7:])
         self.assertIsNone(fault_of(FEW, ONE_IN, right))
         for record in wrong:

@@ -312,6 +312,23 @@ class Answers(Refusing):
             thing = Thing(head + case + " : when yes answer else")
             self.assertEqual(thing.given([1, [], []], 0), (wanted,), case)
 
+    def test_both_ends_of_a_line(self):
+        thing = Thing("line row 3 4 / ask a : when yes answer f front row : when yes answer no / ask b : when yes answer b back row : when "
+                      "yes answer no / ask c : when yes answer ok shift row / ask d : when yes answer ok pop row / "
+                      "ask e : when yes answer n size row push row 0 : when yes answer full")
+        for row, front, back, shifted, popped in (((1, 2, 3), 1, 3, (2, 3), (1, 2)), ((2, 0), 2, 0, (0,), (2,)), ((3,), 3, 3, (), ())):
+            self.assertEqual(thing.given((row,), 0), ((f"f{front}", (row,)),))
+            self.assertEqual(thing.given((row,), 1), ((f"b{back}", (row,)),))
+            self.assertEqual(thing.given((row,), 2), (("ok", (shifted,)),))
+            self.assertEqual(thing.given((row,), 3), (("ok", (popped,)),))
+            pushed = ("full", (row,)) if len(row) == 3 else (f"n{len(row)}", (row + (0,),))
+            self.assertEqual(thing.given((row,), 4), (pushed,))
+            self.assertIs(thing.is_so(f"and = front row {front} = back row {back}", (row,)), True)
+            self.assertIs(thing.is_so("= + front row 1 + 1 back row", (row,)), front == back)
+        for number, given in enumerate(("no", "no", None, None, "n0")):
+            told = thing.given(((),), number)
+            self.assertEqual([answer for answer, _ in told], [given] if given else [])
+
     def test_errors(self):
         thing = Thing(MIXED)
         for value in (None, (0, (), (), ()), (True, (), ()), (9, (), ()), Odd(), "", 0):

@@ -111,6 +111,7 @@ class MadeKinds(Refusing):
                "pick 0 8 yes answer b one : may yes answer ok : may yes answer top"
         self.assertEqual(len(made(Thing(text.format(49))).kind.rows), 600)
         self.refuses(TooMany("rows", 600), made, Thing(text.format(50)))
+        self.refuses(TooMany("rows", 600), made, Thing(text.format(49) + " : may = n 0 answer c"))
         self.assertEqual(len(always(Thing(text.format(50)), "yes").states), 51)
         text = text.replace("pick 0 8 yes answer b one", "pick 0 8 yes answer b one : may yes answer c : may yes answer d")
         self.refuses(TooMany("answers", 12), made, Thing(text.format(50)))
