@@ -2,7 +2,7 @@
 
 from fewvisits.checks import need_number
 from fewvisits.kinds import Kind, behind_of, moves_of, need_kind
-from fewvisits.papers import Denial, Paper
+from fewvisits.papers import Denial, Paper, fixed
 from fewvisits.plays import ways
 
 
@@ -10,7 +10,8 @@ class Alike(Paper):
     """In each of these pairs of states the other can all that the one can."""
 
     def __init__(self, pairs):
-        Paper.__init__(self, "alike", pairs)
+        self.word = "alike"
+        self.parts = fixed((pairs,))
         self.pairs = self.parts[0]
 
 
@@ -18,7 +19,8 @@ class Parts(Denial):
     """These operations can be played from the one state, and not from the other."""
 
     def __init__(self, operations):
-        Denial.__init__(self, "parts", operations)
+        self.word = "parts"
+        self.parts = fixed((operations,))
         self.operations = self.parts[0]
 
 

@@ -12,7 +12,8 @@ class Goes(Paper):
     """At these places both operations can be played both ways round, and lead to pairs among these."""
 
     def __init__(self, places, pairs):
-        Paper.__init__(self, "goes", places, pairs)
+        self.word = "goes"
+        self.parts = fixed((places, pairs))
         self.places, self.pairs = self.parts
 
 
@@ -20,7 +21,8 @@ class Jars(Denial):
     """Behind before both operations are possible; second, first lets behind be played, first, second does not."""
 
     def __init__(self, before, first, second, behind):
-        Denial.__init__(self, "jars", before, first, second, behind)
+        self.word = "jars"
+        self.parts = fixed((before, first, second, behind))
         self.before, self.first, self.second, self.behind = self.parts
 
 

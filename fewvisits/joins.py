@@ -3,7 +3,7 @@
 from fewvisits.checks import is_within
 from fewvisits.orders import Fits, fits, holds_seen
 from fewvisits.own import keeps
-from fewvisits.papers import Denial
+from fewvisits.papers import Denial, fixed
 from fewvisits.searches import is_order, need_few
 from fewvisits.weaves import at, fits_all, last_order, need_weave
 
@@ -12,7 +12,8 @@ class Lax(Denial):
     """The thing breaks its own rule: this order holds what is seen there, and does not fit there."""
 
     def __init__(self, thing, order):
-        Denial.__init__(self, "lax", thing, order)
+        self.word = "lax"
+        self.parts = fixed((thing, order))
         self.thing, self.order = self.parts
 
 

@@ -2,7 +2,7 @@
 
 from fewvisits.errors import BadOrder
 from fewvisits.histories import need_history, operations, seen_of
-from fewvisits.papers import Denial, Paper
+from fewvisits.papers import Denial, Paper, fixed
 from fewvisits.plays import lead
 from fewvisits.searches import is_order, least_order, leads_of, need_few
 
@@ -11,7 +11,8 @@ class Fits(Paper):
     """This order fits."""
 
     def __init__(self, order):
-        Paper.__init__(self, "fits", order)
+        self.word = "fits"
+        self.parts = fixed((order,))
         self.order = self.parts[0]
 
 
@@ -19,7 +20,8 @@ class Bars(Denial):
     """No order fits: each one begins with one of these, and they do not fit."""
 
     def __init__(self, beginnings):
-        Denial.__init__(self, "bars", beginnings)
+        self.word = "bars"
+        self.parts = fixed((beginnings,))
         self.beginnings = self.parts[0]
 
 

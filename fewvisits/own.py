@@ -2,7 +2,7 @@
 
 from fewvisits.histories import need_history, seen_of
 from fewvisits.orders import lane_of
-from fewvisits.papers import Denial, Paper
+from fewvisits.papers import Denial, Paper, fixed
 from fewvisits.searches import need_few
 
 
@@ -10,7 +10,8 @@ class Keeps(Paper):
     """The own rule is kept: for each closed lot the pair of it and its room."""
 
     def __init__(self, rooms):
-        Paper.__init__(self, "keeps", rooms)
+        self.word = "keeps"
+        self.parts = fixed((rooms,))
         self.rooms = self.parts[0]
 
 
@@ -18,7 +19,8 @@ class Breaks(Denial):
     """The own rule is broken: this order holds what is seen, and does not fit."""
 
     def __init__(self, order):
-        Denial.__init__(self, "breaks", order)
+        self.word = "breaks"
+        self.parts = fixed((order,))
         self.order = self.parts[0]
 
 

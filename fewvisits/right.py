@@ -1,7 +1,7 @@
 """Which spreads are right."""
 
 from fewvisits.besides import carried_crossings, least_jar
-from fewvisits.papers import Denial, Paper
+from fewvisits.papers import Denial, Paper, fixed
 from fewvisits.parting import carried, lengths_apart, moves_by
 from fewvisits.plays import ways
 from fewvisits.spreads import need_spread, visiting_at_most
@@ -12,7 +12,8 @@ class Right(Paper):
     """The spread is right: what does not meet goes beside, and what may be missed is unnoticed."""
 
     def __init__(self, places, pairs, missed):
-        Paper.__init__(self, "right", places, pairs, missed)
+        self.word = "right"
+        self.parts = fixed((places, pairs, missed))
         self.places, self.pairs, self.missed = self.parts
 
 
@@ -20,7 +21,8 @@ class Unmet(Denial):
     """First and second do not meet, and do not go beside one another, as a Jars tells."""
 
     def __init__(self, before, first, second, behind):
-        Denial.__init__(self, "unmet", before, first, second, behind)
+        self.word = "unmet"
+        self.parts = fixed((before, first, second, behind))
         self.before, self.first, self.second, self.behind = self.parts
 
 
@@ -28,7 +30,8 @@ class Missed(Denial):
     """The operation is noticed, as a Noticed tells, by operations that may miss it."""
 
     def __init__(self, before, operation, behind):
-        Denial.__init__(self, "missed", before, operation, behind)
+        self.word = "missed"
+        self.parts = fixed((before, operation, behind))
         self.before, self.operation, self.behind = self.parts
 
 

@@ -1,6 +1,6 @@
 """Reading texts: items with single blanks between."""
 
-from fewvisits.checks import is_word
+from fewvisits.checks import is_within, is_word
 from fewvisits.errors import BadText
 
 DIGITS = "0123456789"
@@ -69,9 +69,9 @@ class Reader:
         return found
 
     def integer(self, least, most):
-        """Reads an integer from least to most."""
+        """Reads an integer from least to most; None is no bound."""
         told = None if self.done() else number_told(self.told[self.place])
-        if told is None or not least <= told <= most:
+        if not is_within(told, least, most):
             self.refuse()
         self.skip()
         return told

@@ -3,7 +3,7 @@
 from fewvisits.errors import Impossible, TooMany
 from fewvisits.kinds import MOST_ANSWERS, MOST_ROWS, MOST_STATES, Kind, need_kind
 from fewvisits.mets import met_of
-from fewvisits.papers import Denial, Paper
+from fewvisits.papers import Denial, Paper, fixed
 from fewvisits.things import Thing, condition_of, is_so_at, need_thing
 
 
@@ -11,7 +11,8 @@ class Made(Paper):
     """The made kind, and the state of the thing for each of its states."""
 
     def __init__(self, kind, states):
-        Paper.__init__(self, "made", kind, states)
+        self.word = "made"
+        self.parts = fixed((kind, states))
         self.kind, self.states = self.parts
 
 
@@ -19,7 +20,8 @@ class Silent(Denial):
     """At the state to which these operations lead this ask gets no answer."""
 
     def __init__(self, operations, ask):
-        Denial.__init__(self, "silent", operations, ask)
+        self.word = "silent"
+        self.parts = fixed((operations, ask))
         self.operations, self.ask = self.parts
 
 
@@ -27,7 +29,8 @@ class Always(Paper):
     """At these states, all met ones among them, the condition is so."""
 
     def __init__(self, states):
-        Paper.__init__(self, "always", states)
+        self.word = "always"
+        self.parts = fixed((states,))
         self.states = self.parts[0]
 
 
@@ -35,7 +38,8 @@ class Sometimes(Denial):
     """At the state to which these operations lead the condition is not so."""
 
     def __init__(self, operations):
-        Denial.__init__(self, "sometimes", operations)
+        self.word = "sometimes"
+        self.parts = fixed((operations,))
         self.operations = self.parts[0]
 
 
@@ -43,7 +47,8 @@ class Same(Paper):
     """At the states of each of these pairs both things can play the same."""
 
     def __init__(self, pairs):
-        Paper.__init__(self, "same", pairs)
+        self.word = "same"
+        self.parts = fixed((pairs,))
         self.pairs = self.parts[0]
 
 
@@ -51,7 +56,8 @@ class Unlike(Denial):
     """These operations can be played with the thing of this number alone."""
 
     def __init__(self, operations, number):
-        Denial.__init__(self, "unlike", operations, number)
+        self.word = "unlike"
+        self.parts = fixed((operations, number))
         self.operations, self.number = self.parts
 
 

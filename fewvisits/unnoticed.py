@@ -12,7 +12,8 @@ class Unnoticed(Paper):
     """At these places the operation leads to a state of which these pairs show that it can all by the others."""
 
     def __init__(self, places, pairs):
-        Paper.__init__(self, "unnoticed", places, pairs)
+        self.word = "unnoticed"
+        self.parts = fixed((places, pairs))
         self.places, self.pairs = self.parts
 
 
@@ -20,7 +21,8 @@ class Noticed(Denial):
     """Before, behind can be played; with the operation between the two it cannot."""
 
     def __init__(self, before, behind):
-        Denial.__init__(self, "noticed", before, behind)
+        self.word = "noticed"
+        self.parts = fixed((before, behind))
         self.before, self.behind = self.parts
 
 

@@ -311,3 +311,179 @@ CHECK_RIGHT = """\
 >>> [shows_right(few, is_right(few)), shows_right(few, is_right(loose)), shows_right(loose, Missed([put, take], put, [short])), shows_right(apart, Unmet([put], put, take, [take]))]
 [True, False, True, True]
 """
+
+SPREAD_RUNS = """\
+>>> log_of(loose, is_right(loose))[:4]
+(('do', 1, 0, 0, 0, (0, 1, 2), (2,), ()), ('ready', 1), ('yes', 1), ('do', 2, 1, 1, 1, (0, 1), (0, 1), ()))
+>>> log_of(apart, is_right(apart))[3:5]
+(('do', 1, 1, 0, 1, (0, 1), (0, 1), ((0, 1),)), ('do', 2, 0, 0, 2, (2,), (2,), ((0, 1),)))
+>>> [record[:3] for record in log_of(apart, is_right(apart))[5:]]
+[('ready', 1), ('ready', 2), ('yes', 1), ('yes', 2), ('do', 3, 1), ('ready', 3), ('yes', 3)]
+>>> log_of(few, is_right(loose))
+raises BadValue('paper')
+"""
+
+LOWERED = """\
+>>> [lowered(Spread(box, 3, [(0, 0, 3, 3), (1, 0, 3, 3), (1, 1, 3, 3)])).rows, lowered(majority(box, 3)).rows, lowered(few).rows]
+[((0, 0, 1, 1), (1, 0, 3, 1), (1, 1, 3, 0)), ((0, 0, 2, 2), (1, 0, 2, 2), (1, 1, 2, 0)), ((0, 0, 1, 1), (1, 0, 3, 1), (1, 1, 3, 0))]
+"""
+
+LETTERS = """\
+>>> [is_letter((0, 7, "visit", 3, 0, 0, 1)), is_letter([0, 6, "visit", 3, 0, 0, 1]), is_letter((0, 6, "no", 3)), is_letter((0, 7, "leave", 3, 0, 1, [4, 7])), is_letter((0, 7, "leave", 3, 0, 1, [7, 4]))]
+[True, False, True, True, False]
+>>> [is_letter((7, 0, "shown", 3, 0, 0, 1, 0, [], ())), is_letter((7, 0, "shown", 3, 0, 0, 1, 4, [(2, 0, 1, 0, 4), (1, 0, 1, 0, 4)], [])), is_letter((7, 0, "shown", 3, 0, 0, 1, 4, [], [(1, 1, 0, 0), (1, 0, 0, 0)]))]
+[True, False, False]
+>>> letter_text((0, 7, "note", 3, 1, 0, 1, 0, 2, 4, 1, [(2, 0, 1, 0, 1), (3, 0, 0, 2, 2)]))
+'0 7 note 3 1 0 1 0 2 4 1 / 2 0 1 0 1 / 3 0 0 2 2'
+>>> letter_text((7, 0, "shown", 3, 0, 0, 1, 4, [(2, 0, 1, 0, 1)], [(1, 0, 0, 2), (4, 1, 0, 0)]))
+'7 0 shown 3 0 0 1 4 / 2 0 1 0 1 | 1 0 0 2 | 4 1 0 0'
+>>> [letter_text((0, 7, "leave", 3, 0, 1, (4, 7))), letter_text((6, 7, "end", 3, 1, [(0, 1, 1), (2, 6, 4)]))]
+['0 7 leave 3 0 1 4 7', '6 7 end 3 1 / 0 1 1 / 2 6 4']
+"""
+
+SITES = """\
+>>> site = Site(0, Disk(32))
+>>> [site.life, site.up, site.take((0, 7, "visit", 0, 0, 0, 1)), site.lock, site.working]
+[1, True, ((7, 0, 'shown', 0, 0, 0, 1, 0, (), ()),), (0, 0, 0), (0,)]
+>>> [site.take((0, 8, "visit", 1, 0, 0, 1)), site.take((0, 7, "note", 0, 0, 0, 1, 0, 0, 1, 1, [])), site.lock, site.marks, site.date]
+[(), ((7, 0, 'noted', 0, 0, 1),), None, ((0, 0, 0, 0),), 1]
+>>> [site.take((0, 8, "visit", 1, 0, 0, 1)), site.take((0, 8, "leave", 1, 0, 0, [])), site.working, site.take((0, 8, "visit", 1, 0, 0, 1))]
+[((8, 0, 'shown', 1, 0, 0, 1, 1, (), ((0, 0, 0, 0),)),), (), (0,), ()]
+>>> [site.take([0, 8, "visit", 1, 0, 1, 1]), site.take((0, 8, "leave", 1, 0, 1, [0])), site.working, site.lying, site.news()]
+[((8, 0, 'shown', 1, 0, 1, 1, 1, (), ((0, 0, 0, 0),)),), ((7, 0, 'gone', 0, 1),), (), (), (('mark', 0, 0), ('no', 0))]
+>>> [site.take((0, 9, "visit", 2, 0, 0, 1)), site.take((0, 9, "note", 2, 0, 0, 1, 1, 0, 2, 1, ())), site.take((0, 6, "hold", 2, 1, 1)), site.holding]
+[((9, 0, 'shown', 2, 0, 0, 1, 1, (), ()),), ((9, 0, 'noted', 2, 0, 1),), ((6, 0, 'held', 2),), (2,)]
+>>> [site.cut([]), site.lying, site.rise(), site.life, site.lying, site.date, site.take((0, 10, "visit", 3, 0, 0, 2))]
+[None, (), True, 2, ((2, 0, 1, 0, 2),), 2, ((10, 0, 'shown', 3, 0, 0, 2, 2, (), ((2, 1, 0, 0),)),)]
+>>> [site.take((0, 6, "yes", 2)), site.take((0, 10, "leave", 3, 0, 0, ())), site.take((0, 10, "visit", 3, 0, 1, 2)), site.again()]
+[((6, 0, 'done', 2),), (), ((10, 0, 'shown', 3, 0, 1, 2, 2, ((2, 0, 1, 0, 2),), ()),), ((10, 0, 'still', 3, 0, 1, 2),)]
+>>> [site.take((0, 10, "note", 3, 0, 1, 2, 0, 1, 3, 0, ())), site.lying, site.marks, site.date, site.take((0, 6, "hold", 3, 1, 2)), lies_on(site.disk)]
+[((10, 0, 'noted', 3, 0, 2),), ((2, 0, 1, 0, 2),), ((3, 0, 0, 1),), 3, ((6, 0, 'held', 3),), (((2, 0, 1, 0, 2),), (3,), (2,))]
+"""
+
+TELLERS = """\
+>>> teller = Teller(Disk(16))
+>>> [teller.take((6, 7, "end", 0, 1, [(0, 1, 1), (2, 3, 4)])), teller.take((6, 0, "held", 0)), teller.again(), teller.asking]
+[((0, 6, 'hold', 0, 1, 1), (2, 6, 'hold', 0, 3, 4)), (), ((2, 6, 'hold', 0, 3, 4),), (0,)]
+>>> [teller.take((6, 0, "what", 0)), teller.take((6, 2, "held", 0)), yeses_of(teller.disk)]
+[(), ((0, 6, 'yes', 0), (2, 6, 'yes', 0), (7, 6, 'told', 0, 1, 1)), ((0, (0, 2)),)]
+>>> [teller.take((6, 8, "end", 1, 1, ((0, 1, 1),))), teller.take((6, 0, "barred", 1)), teller.take((6, 0, "done", 0)), teller.again()]
+[((0, 6, 'hold', 1, 1, 1),), ((0, 6, 'no', 1), (8, 6, 'told', 1, 0, 1)), (), ((2, 6, 'yes', 0),)]
+>>> [teller.cut([]), teller.take((6, 2, "what", 0)), teller.rise(), teller.take((6, 2, "what", 0)), teller.take((6, 7, "end", 3, 1, [])), teller.take((6, 7, "end", 3, 2, []))]
+[None, (), True, ((2, 6, 'yes', 0),), ((7, 6, 'told', 3, 0, 2),), ((7, 6, 'told', 3, 0, 2),)]
+"""
+
+PROGRAMS = """\
+>>> coins = Program([(few, [0, 1, 2])], [[[(0, 0)]], [[(0, 1)]]], [(1, 0)])
+>>> [coins.deals, coins.owners, coins.pairs, coins == Program([(few, (0, 1, 2))], coins.hands)]
+[(((0, 0),), ((0, 1),)), (0, 1), ((1, 0),), False]
+>>> Program([(few, [0, 1])], [[]])
+raises BadProgram('things')
+>>> Program([(few, [0, 1, 2])], [[[(0, 2)]]])
+raises BadProgram('hands')
+"""
+
+PATIENCE = """\
+>>> [goes_one_way([(0, 1), (2, 0)]).parts, goes_one_way([(3, 1), (1, 3), (0, 1)]).parts, goes_one_way([]).parts]
+[((2, 0, 1),), ((1, 3),), ((),)]
+>>> [goes_one_way([(0, 1), (1, 2), (2, 0), (2, 3)]).parts, bool(goes_one_way([(4, 5), (5, 4)]))]
+[((0, 1, 2),), False]
+>>> [depths([(0, 1), (1, 2), (0, 2), (5, 2)]), by_number(3, True), by_number(3, False)]
+[((0, 2), (1, 1), (2, 0), (5, 1)), ((0, 1), (0, 2), (1, 2)), ((1, 0), (2, 0), (2, 1))]
+>>> goes_one_way([(2, 2)])
+raises BadPairs('pairs')
+>>> eased([(0, 1), (1, 0), (1, 2)]).out in (((0, 1),), ((1, 0),))
+True
+>>> len(eased([(0, 1), (1, 2), (2, 0), (0, 2)]).out)
+1
+"""
+
+SCRIPTS = """\
+>>> told = [("visit", 0, 2), ["bring", 0], ("cut", 1, 5), ("quit", 2)]
+>>> [is_script(told), is_script([("send",)]), is_script([("cut", 7, 0)]), is_script([("send", True)]), is_script(())]
+[True, False, False, False, True]
+>>> [script_text(told), read_script("rise 6 / drop 0 7"), read_script("")]
+['visit 0 2 / bring 0 / cut 1 5 / quit 2', (('rise', 6), ('drop', 0, 7)), ()]
+>>> read_script("send 0 / bring")
+raises BadText(4)
+>>> read_script("send 0 / cut 1 5 5")
+raises BadText(6)
+"""
+
+WORLDS = """\
+>>> put_in = [("visit", 0, 2), ("bring", 0), ("bring", 0), ("decide", 0, 1), ("bring", 0), ("bring", 0)]
+>>> ask = [("visit", 1, 0), ("bring", 0), ("bring", 0), ("visit", 1, 1), ("bring", 0), ("bring", 0), ("visit", 1, 2), ("bring", 0), ("bring", 0), ("decide", 1, 7)]
+>>> small = World(coins)
+>>> [small.run(put_in[:4]), small.letters()]
+[4, ((2, 7, 'note', 0, 0, 0, 1, 0, 0, 1, 1, ()),)]
+>>> [small.run(put_in[4:]), small.letters(), small.heard()]
+[2, (), (((0,), None), ((), None))]
+>>> [small.run(ask), small.letters()[2], small.waits()]
+[10, (2, 8, 'leave', 1, 0, 0, ()), ((1, 0),)]
+>>> [small.calm(), small.heard(), small.order(), small.log(0)[:3]]
+[2, (((0,), 1), ((0,), 1)), (0, 1), (('do', 0, 0, 0, 1, (2,), (2,), ()), ('ready', 0), ('yes', 0))]
+>>> [small.log(0)[3], bool(joined(small.settled())), small.settled() == small.weave()]
+[('do', 1, 1, 0, 2, (0, 1, 2), (0, 1, 2), ((0, 1),)), True, True]
+>>> rash = World(Program(coins.things, coins.hands))
+>>> [rash.run(put_in), rash.run(ask), rash.letters()[2]]
+[6, 10, (2, 8, 'leave', 1, 0, 0, (0,))]
+>>> [rash.calm(), rash.heard(), rash.order()]
+[2, (((0,), 0), ((1,), 1)), (1,)]
+>>> fallen = World(coins)
+>>> [fallen.run(put_in), fallen.step(("cut", 2, 0)), fallen.step(("send", 0)), fallen.out(), fallen.letters()]
+[6, True, True, (2,), ((6, 7, 'end', 0, 1, ((2, 1, 1),)),)]
+>>> [fallen.calm(), fallen.heard(), fallen.lives()]
+[3, (((0,), 0), ((1,), 1)), (1, 1, 2, 1)]
+"""
+
+STORIES = """\
+>>> [story(small)[:2], story(small)[-1]]
+[('deal 0 asks thing 0: put', 'thing 0 answers deal 0: ok'), 'yes for deal 1 at thing 0']
+"""
+
+TEARS = """\
+>>> rent = torn(loose)
+>>> [rent.program.hands, len(rent.script), rent.script[9:12], rent.script[16:20]]
+[((((0, 0), (1, 0)), ((0, 1), (1, 0))),), 73, (('decide', 0, 4), ('bring', 0), ('bring', 0)), (('visit', 0, 3), ('bring', 0), ('bring', 0), ('decide', 0, 1))]
+>>> world = played_world(rent.program, script=rent.script)
+>>> [world.heard(), world.order(), order_of_all(world.settled()).beginnings, world.letters()]
+[(((0, 0), 1), ((1, 1), 1)), (0, 1), (((0, 1), 0), ((1,), 1)), ()]
+>>> world.log(0)[3]
+('do', 1, 1, 1, 2, (0, 1), (0, 1), ())
+>>> rent = torn(apart)
+>>> [rent.program.hands, len(rent.script), rent.script[41:44]]
+[((((0, 0), (1, 0)), ((0, 1), (1, 0)), ((0, 1), (1, 0))), (((0, 0), (1, 0)),)), 137, (('visit', 0, 0), ('bring', 0), ('bring', 0))]
+>>> world = played_world(rent.program, rent.script)
+>>> [world.heard(), world.order(), bool(order_of_all(world.settled()))]
+[(((0, 0), 1), ((0, 2), 1), ((0, 3), 1), ((0, 1), 1)), (0, 3, 1, 2), False]
+>>> torn(few)
+raises Impossible
+>>> [len(tight(few).rows), tight(few).rows[0][:3], tight(few).rows[0][3] == Missed((), put, [short]), tight(few).rows[2][:3]]
+[4, (0, 0, 1), True, (1, 0, 1)]
+>>> [bool(tight(majority(box, 3))), tight(Spread(box, 3, [(0, 0, 1, 1), (1, 0, 3, 2), (1, 1, 3, 0)])) == Slack(1, 0, 1)]
+[True, True]
+"""
+
+CHECK_TEARS = """\
+>>> [shows_torn(loose, torn(loose)), shows_torn(apart, torn(loose)), shows_torn(few, Torn(rent.program, rent.script))]
+[True, False, False]
+>>> [shows_tight(few, tight(few)), shows_tight(few, tight(majority(box, 3))), shows_tight(loose, Slack(0, 0, 1))]
+[True, False, False]
+"""
+
+CHECK_PATIENCE = """\
+>>> [shows_one_way([(0, 1), (2, 1)], OneWay([2, 0, 1])), shows_one_way([(0, 1), (2, 1)], OneWay((1, 0, 2))), shows_one_way([(0, 1), (1, 0)], Round([1, 0]))]
+[True, False, True]
+>>> [shows_eased([(0, 1), (1, 0)], Eased((0, 1), [(1, 0)], (0, 0, 0, 1))), shows_eased([(0, 1), (1, 0)], Eased((0, 1), [(1, 0)], (0, 0, 0, 0)))]
+[True, False]
+"""
+
+RINGS = """\
+>>> caught = played_ring([(4, 2), (2, 4)])
+>>> [caught.program.hands, caught.waits(), goes_one_way(caught.waits()).parts]
+[((((0, 0), (0, 1)),), (((0, 1), (0, 0)),)), ((0, 1), (1, 0)), ((0, 1),)]
+>>> [caught.heard(), caught.order(), caught.calm() > 0, caught.heard(), caught.waits()]
+[(((0,), None), ((0,), None)), (), True, (((0,), None), ((0,), None)), ((0, 1), (1, 0))]
+>>> [ring_of([(0, 1), (1, 0)])[1][:6], len(ring_of([(0, 1), (1, 0)])[1])]
+[(('visit', 0, 0), ('bring', 0), ('bring', 0), ('decide', 0, 1), ('bring', 0), ('bring', 0)), 22]
+"""

@@ -9,7 +9,9 @@ from tests import interface_examples
 # In the order of the document, as later sections use the names that earlier ones made.
 SECTIONS = ["checks", "papers", "kinds", "plays", "makers", "alike", "check_alike", "histories", "orders", "weaves",
             "check_orders", "own", "check_own", "joins", "besides", "check_besides", "disks", "journals", "things",
-            "tongue", "check_things", "unnoticed", "spreads", "spread_logs", "right", "least_notes", "check_right"]
+            "tongue", "check_things", "unnoticed", "spreads", "spread_logs", "right", "least_notes", "check_right",
+            "spread_runs", "lowered", "letters", "sites", "tellers", "programs", "patience", "scripts", "worlds", "stories",
+            "tears", "check_tears", "check_patience", "rings"]
 
 
 def names_of(module):
@@ -37,12 +39,14 @@ class Examples(unittest.TestCase):
             exec(statement, names)
         elif wanted.startswith("raises "):
             call = ast.parse(wanted[len("raises "):], mode="eval").body
-            error = names[call.func.id]
+            named = isinstance(call, ast.Name)
+            error = names[call.id if named else call.func.id]
             with self.assertRaises(error) as caught:
                 eval(statement, names)
             self.assertIs(type(caught.exception), error)
-            like = eval(wanted[len("raises "):], names)
-            self.assertEqual(vars(caught.exception), vars(like))
+            if not named:
+                like = eval(wanted[len("raises "):], names)
+                self.assertEqual(vars(caught.exception), vars(like))
         else:
             value = eval(statement, names)
             # repr tells tuples from lists and True from 1, as == does not.

@@ -19,7 +19,7 @@ SPECIAL = {"__init__", "__eq__", "__str__", "__bool__"}
 WORDS = ["typing", "enum", "Enum", "Flag", "Generic", "Protocol", "ABC", "namedtuple", "dataclass", "overload",
          "contextmanager", "_wall", "mro", "elements", "open", "input", "law", "register", "compile", "eval", "exec"]
 BARRED = (ast.Lambda, ast.GeneratorExp, ast.Set, ast.SetComp, ast.Yield, ast.YieldFrom, ast.Await, ast.AsyncFor,
-          ast.AsyncFunctionDef, ast.AsyncWith, ast.Global, ast.Nonlocal, ast.Try, ast.With, ast.NamedExpr, ast.Match,
+          ast.AsyncFunctionDef, ast.AsyncWith, ast.Global, ast.Nonlocal, ast.With, ast.NamedExpr, ast.Match,
           ast.Div, ast.MatMult, ast.Pow, ast.Import, ast.AnnAssign, ast.Delete)
 OWN_BUILTINS_LIKE = {name for name in vars(builtins)}
 
@@ -116,6 +116,14 @@ class Form(unittest.TestCase):
         for path, node in all_nodes(ast.ImportFrom):
             self.assertEqual(node.col_offset, 0, path)
 
+    def test_tries(self):
+        own = {node.name for node in parsed(FOLDER / "errors.py").body if isinstance(node, ast.ClassDef)}
+        for path, node in all_nodes(ast.Try):
+            self.assertFalse(node.finalbody or node.orelse, path)
+            for handler in node.handlers:
+                self.assertIn(handler.type.id, own, path)
+                self.assertIsNone(handler.name, path)
+
     def test_functions(self):
         for path, node in all_nodes(ast.FunctionDef):
             where = (path.name, node.name)
@@ -165,8 +173,12 @@ class Form(unittest.TestCase):
     def test_no_name_is_a_method_and_an_attribute(self):
         methods = {name.name for _, node in all_nodes(ast.ClassDef) for name in node.body
                    if isinstance(name, ast.FunctionDef)}
+        classes = {node.name for _, node in all_nodes(ast.ClassDef)}
         assigned = {node.attr for _, node in all_nodes(ast.Attribute) if isinstance(node.ctx, ast.Store)}
-        self.assertFalse(methods & assigned)
+        # The interface wants these of a world, and of papers.
+        self.assertLessEqual(methods & assigned, {"order", "out"})
+        for _, node in all_nodes(ast.Attribute):
+            self.assertFalse(isinstance(node.value, ast.Name) and node.value.id in classes, ast.dump(node))
 
     def test_is(self):
         for path, node in all_nodes(ast.Compare):
