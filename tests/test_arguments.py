@@ -1,9 +1,11 @@
 """Each function raises the error of its first wrong parameter, by place and by name, whatever stands behind it."""
 
-from fewvisits import (alike, besides, check_alike, check_besides, check_orders, check_own, check_right, check_things, disks,
-                       histories, joins, journals, kinds, least_notes, makers, orders, own, plays, right, spread_logs, spreads,
-                       things, tongue, unnoticed, weaves)
-from fewvisits.errors import (BadEvents, BadKind, BadLog, BadLot, BadNumber, BadOrder, BadSpread, BadText, BadValue)
+from fewvisits import (alike, besides, check_alike, check_besides, check_orders, check_own, check_patience, check_right,
+                       check_tears, check_things, disks, histories, joins, journals, kinds, least_notes, letters, lowered, makers,
+                       orders, own, patience, plays, programs, right, rings, scripts, sites, spread_logs, spread_runs, spreads,
+                       stories, tears, tellers, things, tongue, unnoticed, weaves, worlds)
+from fewvisits.errors import (BadEvents, BadKind, BadLog, BadLot, BadNumber, BadOrder, BadPairs, BadProgram, BadScript, BadSpread,
+                              BadText, BadValue)
 from tests.naive import Odd
 from tests.refusing import Refusing
 
@@ -143,6 +145,57 @@ SPREADING = [
     (least_notes.majority, [KIND, SITES])] + [
     (told, [SPREAD, number("ask", 0), number("answer", 0)]) for told in (spreads.visits_of, spreads.notes_of, spreads.missing)]
 
+WRONG = ("spread", spreads.Spread(BOX, 2, [(0, 0, 1, 0), (1, 0, 1, 0), (1, 1, 1, 0)]), BadSpread("spread"), [None, BOX, ROWS, Odd()])
+PROGRAM = programs.Program([(spreads.Spread(BOX, 2, ROWS), (0, 1))], [[[(0, 0)]]])
+DISK = ("disk", disks.Disk(8), BadValue("disk"), [None, 8, Odd()])
+LETTER_WRONG = [None, (), (0, 7, "visit"), [Odd()] * 7, Odd()]
+PAIRS = ("pairs", [(0, 1)], BadPairs("pairs"), NO_LIST + [[(0, 0)], [(0, 8)], [(0, True)], [(0, 1), (0, 1)], [Odd()]])
+RING = PAIRS[:1] + ([(0, 1), (1, 0)],) + PAIRS[2:]
+SCRIPT_WRONG = NO_LIST + [[("send", 8)], [("send", True)], [None], [Odd()]]
+SCRIPT = ("script", [("send", 0)], BadScript("script"), SCRIPT_WRONG)
+PROGRAM_FIRST = ("program", PROGRAM, BadValue("program"), [None, BOX, (), Odd()])
+
+
+def new_site():
+    return sites.Site(0, disks.Disk(8))
+
+
+def new_teller():
+    return tellers.Teller(disks.Disk(8))
+
+
+def new_world():
+    return worlds.World(PROGRAM)
+
+
+LANDS = [("lands", [], BadLot("lands"), LOT_WRONG), ("torn", [], BadLot("torn"), LOT_WRONG)]
+NODE_DEAL = ("deal", 1, BadNumber("deal"), [True, None, -1, 12, Odd()])
+FUSE = ("many", 1, BadNumber("many"), [0, True, None, Odd()])
+
+LASTLY = [
+    (spread_runs.log_of, [WRONG, ("paper", right.is_right(WRONG[1]), BadValue("paper"), [None, BOX, right.is_right(SPREAD[1]), Odd()])]),
+    (lowered.lowered, [("spread", least_notes.majority(BOX, 2), BadSpread("spread"), [None, BOX, ROWS, Odd()])]),
+    (letters.letter_text, [("letter", (0, 7, "no", 1), BadValue("letter"), LETTER_WRONG)]),
+    (sites.Site, [("number", 5, BadNumber("number"), [True, None, -1, 6, Odd()]), DISK]), (sites.lies_on, [DISK]),
+    (of_new(new_site, "take"), [("letter", (0, 7, "no", 1), BadValue("letter"), LETTER_WRONG + [(1, 7, "no", 1)])]),
+    (of_new(new_site, "drop"), [NODE_DEAL]), (of_new(new_site, "cut"), LANDS), (of_new(new_site, "fuse"), [FUSE]),
+    (tellers.Teller, [DISK]), (tellers.yeses_of, [DISK]),
+    (of_new(new_teller, "take"), [("letter", (6, 0, "what", 1), BadValue("letter"), LETTER_WRONG + [(0, 6, "yes", 1)])]),
+    (of_new(new_teller, "give_up"), [NODE_DEAL]), (of_new(new_teller, "cut"), LANDS), (of_new(new_teller, "fuse"), [FUSE]),
+    (programs.Program, [("things", PROGRAM.things, BadProgram("things"), NO_LIST + [[], [None], [Odd()]]),
+                        ("hands", [[[(0, 1)]]], BadProgram("hands"), NO_LIST + [[], [None], [[[]]], [[[(0, 2)]]], [Odd()]]), PAIRS]),
+    (patience.goes_one_way, [PAIRS]), (patience.depths, [PAIRS]), (patience.eased, [PAIRS]),
+    (patience.by_number, [("many", 3, BadNumber("many"), [True, None, -1, 9, Odd()]),
+                          ("is_up", True, BadValue("is_up"), [None, 1, 0, "up", Odd()])]),
+    (check_patience.shows_one_way, [PAIRS, ANY]), (check_patience.shows_eased, [PAIRS, ANY]),
+    (scripts.script_text, [SCRIPT]), (scripts.read_script, [("text", "send 0", BadText(0), [None, 7, b"send 0", "x", Odd()])]),
+    (worlds.World, [PROGRAM_FIRST]), (of_new(new_world, "step"), [("told", ("send", 0), BadScript("told"), SCRIPT_WRONG)]),
+    (of_new(new_world, "run"), [SCRIPT]), (of_new(new_world, "log"), [("thing", 0, BadNumber("thing"), [True, None, -1, 1, Odd()])]),
+    (stories.story, [("world", new_world(), BadValue("world"), [None, PROGRAM, Odd()])]),
+    (tears.torn, [WRONG]), (tears.tight, [("spread", least_notes.majority(BOX, 2), BadSpread("spread"), [None, BOX, ROWS, Odd()])]),
+    (tears.played_world, [PROGRAM_FIRST, SCRIPT]), (check_tears.shows_torn, [SPREAD, ANY]), (check_tears.shows_tight, [SPREAD, ANY]),
+    (rings.ring_of, [RING]), (rings.played_ring, [RING])]
+
 
 class Arguments(Refusing):
 
@@ -159,6 +212,6 @@ class Arguments(Refusing):
                     self.refuses(error, way, rights[:place] + [value] + [Odd() for _ in behind])
 
     def test_all(self):
-        for function, parameters in PLAIN + JOINED + KEEPING + SPREADING:
+        for function, parameters in PLAIN + JOINED + KEEPING + SPREADING + LASTLY:
             with self.subTest(function=function.__qualname__, parameters=[name for name, _, _, _ in parameters]):
                 self.check(function, parameters)
