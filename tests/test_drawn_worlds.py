@@ -16,6 +16,7 @@ from fewvisits.stories import story
 from fewvisits.tellers import yeses_of
 from fewvisits.weaves import fits_all
 from fewvisits.worlds import World
+from tests.naive_worlds import PlainWorld
 from tests.drawn_worlds import KINDS, right_spread, some_pairs, some_program, some_script, wrong_things
 
 
@@ -84,6 +85,12 @@ class Watched:
         return other
 
 
+def all_told(world):
+    """All that a world tells of itself."""
+    logs = tuple(world.log(thing) for thing in range(len(world.program.things)))
+    return (world.letters(), world.weave().events, world.settled().events, world.heard(), world.waits(), world.lives(), world.out(), logs)
+
+
 class Drawn(unittest.TestCase):
 
     def nothing_wrong(self, world, right):
@@ -120,6 +127,21 @@ class Drawn(unittest.TestCase):
             self.assertEqual(later[:len(answers)], answers)
             if outcome is not None:
                 self.assertEqual((later, other), (answers, outcome))
+
+    def test_as_told_plainly(self):
+        """Step by step, and behind calm, as a world of nodes and hands that are told plainly."""
+        for seed in range(45):
+            dice = random.Random(7000 + seed)
+            pairs = None if seed % 3 else dice.sample([(one, other) for one in range(8) for other in range(8) if one != other], 20)
+            program = some_program(dice, seed % 2 == 0, pairs=pairs)
+            world, plainly = World(program), PlainWorld(program)
+            for step in some_script(dice, program, dice.choice([60, 150, 300])):
+                self.assertEqual(world.step(step), plainly.step(step), (seed, step))
+                self.assertEqual(world.letters(), tuple(plainly.bag), (seed, step))
+                if dice.random() < 0.1:
+                    self.assertEqual(all_told(world), plainly.all_told())
+            self.assertEqual(world.calm(), plainly.calm())
+            self.assertEqual(all_told(world), plainly.all_told())
 
     def test_what_lies_on_the_disks(self):
         found = {True: 0, False: 0}
