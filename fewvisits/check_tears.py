@@ -1,7 +1,7 @@
 """Checking papers on tears, and on tight spreads."""
 
 from fewvisits.check_right import shows_right
-from fewvisits.checks import is_within
+from fewvisits.checks import is_integer
 from fewvisits.programs import Program
 from fewvisits.right import Missed, Unmet, is_right
 from fewvisits.scripts import is_script
@@ -21,9 +21,9 @@ def shows_torn(spread, value):
     return not order_of_all(played_world(value.program, value.script).settled())
 
 
-def is_place(value):
-    """Whether it is the numbers of an operation, and 0 or 1."""
-    return isinstance(value, tuple) and len(value) == 3 and all([is_within(item, 0, None) for item in value])
+def are_numbers(values):
+    """Whether they are integers, which True and False are not."""
+    return all([is_integer(value) for value in values])
 
 
 def shows_less_wrong(spread, value):
@@ -38,12 +38,12 @@ def shows_tight(spread, value):
         return False
     spreads = lesser_spreads(spread)
     if isinstance(value, Slack):
-        return is_place(value.parts) and any([place == value.parts and bool(is_right(less)) for place, less in spreads])
+        return are_numbers(value.parts) and any([place == value.parts and bool(is_right(less)) for place, less in spreads])
     rows = value.rows
     if not isinstance(rows, tuple) or len(rows) != len(spreads):
         return False
     for row, told in zip(rows, spreads):
-        if not isinstance(row, tuple) or len(row) != 4 or not is_place(row[:3]) or row[:3] != told[0]:
+        if not isinstance(row, tuple) or len(row) != 4 or not are_numbers(row[:3]) or row[:3] != told[0]:
             return False
         if not shows_less_wrong(told[1], row[3]):
             return False

@@ -5,6 +5,7 @@ import unittest
 
 from fewvisits.disks import Disk
 from fewvisits.errors import BadLot, BadNumber, BadValue, Misfit
+from fewvisits.journals import Journal
 from fewvisits.letters import is_letter
 from fewvisits.sites import Site, lies_on
 from tests.naive import NO_INTEGERS, NO_LISTS, Odd, OwnInt, OwnList, OwnStr, plain
@@ -391,6 +392,41 @@ class Sites(Refusing):
         site.take((0, 7, "visit", 1, 0, 0, 2))
         site.take((0, 7, "note", 1, 0, 0, 2, 0, 0, 10 ** 50, 0, ()))
         self.assertEqual(site.date, 10 ** 50)
+
+    def test_two_records_of_one_do(self):
+        """Of two of one deal and number the one that was put last counts, at its place; of those that count at all."""
+        own, brought, other, ready = (16, 0, 1, 0, 5), (17, 0, 0, 0, 6), (25, 4, 0, 0, 7), (18, 7)
+        last, early, late = (2, 0, 0, 0, 6), (2, 0, 1, 0, 5), (3, 4, 0, 0, 7)
+        for records, rows in (((own, other, brought, ready), (late, last)), ((brought, other, own, ready), (late, early)),
+                              ((brought, other, own), (last, late)), ((own, other, brought), (late, last)), ((own, other, ready), (early, late)),
+                              ((own, other), (late,)), ((own, other, (18, 7), (20,)), (late,)), ((own, other, (18, 7), (19,)), (early, late)),
+                              ((brought, other, brought), (late, last))):
+            disk = Disk(16)
+            journal = Journal(disk)
+            for record in records:
+                journal.put(record)
+            self.assertEqual(lies_on(disk)[0], ())
+            journal.force()
+            self.assertEqual(lies_on(disk)[0], rows)
+            self.assertEqual(Site(0, disk).lying, rows)
+
+    def test_a_do_that_is_brought_in_a_later_life(self):
+        site = self.noted()
+        site.cut((0,))
+        self.assertEqual((site.rise(), site.lying), (True, ()))
+        site.take((0, 8, "visit", 1, 0, 0, 2))
+        site.take((0, 8, "note", 1, 0, 0, 2, 0, 0, 5, 1, ((4, 0, 0, 0, 1), (0, 0, 0, 0, 3))))
+        self.assertEqual(site.lying, ((4, 0, 0, 0, 1), (0, 0, 0, 0, 3), (1, 0, 0, 0, 5)))
+        site.take((0, 7, "visit", 0, 1, 0, 2))
+        site.take((0, 7, "note", 0, 1, 0, 2, 1, 0, 6, 1, ()))
+        site.take((0, 6, "hold", 0, 1, 2))
+        # It is brought as that of an ended deal: it is shown, also while its deal is ready, and stays when that is called off.
+        self.assertEqual(site.take((0, 9, "visit", 2, 0, 0, 2))[0][8], ((4, 0, 0, 0, 1), (0, 0, 0, 0, 3)))
+        site.cut(())
+        site.rise()
+        self.assertEqual(site.lying, ((4, 0, 0, 0, 1), (0, 0, 0, 0, 3), (0, 1, 1, 0, 6)))
+        site.take((0, 6, "no", 0))
+        self.assertEqual(site.lying, ((4, 0, 0, 0, 1), (0, 0, 0, 0, 3)))
 
     def test_errors(self):
         disk = Disk(16)

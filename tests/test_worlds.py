@@ -241,6 +241,58 @@ class Hands(Refusing):
         self.assertEqual([world.step(("bring", 0)), world.letters(), world.heard()], [True, (), (((0,), None),)])
 
 
+    def test_letters_of_a_deal_that_was_heard_of(self):
+        # Each letter of deal 0 that lies in the bag, while deal 1 is at its step 0 in the same way.
+        world = one_world(deals=((PUT,), (PUT,)))
+        world.run([("visit", 0, 0), ("bring", 0), ("twice", 0), ("bring", 0), ("visit", 0, 2), ("bring", 1), ("bring", 1)])
+        world.run([("decide", 0, 3), ("bring", 1), ("twice", 2), ("bring", 2), ("bring", 1), ("bring", 2)])
+        self.assertEqual([letter[2] for letter in world.letters()], ["shown", "noted"])
+        world.run([("send", 0), ("bring", 2), ("bring", 2), ("bring", 2), ("bring", 2), ("bring", 2), ("twice", 4), ("bring", 4), ("bring", 2), ("bring", 2)])
+        self.assertEqual([letter[2] for letter in world.letters()], ["shown", "noted", "told", "done", "done"])
+        self.assertEqual(world.heard(), (((0,), 1), ((), None)))
+        world.run([("lose", 3), ("lose", 3), ("visit", 0, 0)])
+        # The shown of deal 0 does not count for deal 1; it is left.
+        world.run([("bring", 0)])
+        self.assertEqual([letter[2:6] for letter in world.letters()[2:]], [("visit", 1, 0, 0), ("leave", 0, 0, 0)])
+        self.assertIs(world.step(("decide", 0, 1)), False)
+        world.run([("bring", 2), ("bring", 3), ("lose", 2), ("visit", 0, 2), ("bring", 2), ("bring", 2), ("decide", 0, 3)])
+        self.assertEqual([letter[2] for letter in world.letters()], ["noted", "told", "note", "note"])
+        # Its noted and its told do nothing to deal 1, whose note is under way.
+        world.run([("bring", 0), ("bring", 0)])
+        self.assertEqual([world.step(("send", 0)), len(world.letters()), world.heard()[1]], [True, 4, ((0,), None)])
+
+    def test_gone_and_still_of_a_deal_that_was_heard_of(self):
+        world = one_world(deals=((PUT,), (PUT,)))
+        world.run(see(0, 0, 2) + [("drop", 2, 0), ("twice", 0), ("bring", 0), ("lose", 1), ("visit", 0, 2), ("bring", 1), ("bring", 1)])
+        self.assertEqual(([letter[2] for letter in world.letters()], world.heard()), (["gone"], (((), 0), ((), None))))
+        # Deal 1 counts the very site that says that deal 0 is gone.
+        world.run([("bring", 0)])
+        self.assertEqual((world.letters(), world.heard()[1]), ((), ((), None)))
+        world.run([("visit", 0, 4), ("bring", 0), ("bring", 0)])
+        self.assertIs(world.step(("decide", 0, 3)), True)
+
+    def test_a_noted_of_an_earlier_step(self):
+        world = one_world(deals=((PUT, PUT),))
+        world.run(see(0, 0, 2) + [("decide", 0, 3), ("bring", 0), ("bring", 0), ("twice", 0), ("bring", 0), ("bring", 0)])
+        self.assertEqual([letter[2:5] for letter in world.letters()], [("noted", 0, 0)])
+        world.run([("visit", 0, 0), ("bring", 1), ("bring", 1), ("visit", 0, 2), ("bring", 1), ("bring", 1), ("decide", 0, 3)])
+        # The note of the step 1 to the site 0 is not answered by it.
+        world.run([("bring", 0), ("lose", 0), ("lose", 0), ("send", 0)])
+        self.assertEqual([letter[:5] for letter in world.letters()], [(0, 7, "note", 0, 1), (2, 7, "note", 0, 1)])
+
+    def test_what_a_deal_knows_goes_along(self):
+        # A take looks everywhere, and is noted at the site 0; the put behind it looks at the site 1 alone, where nothing lies.
+        world = one_world(deals=((PUT,), (TAKE, PUT)), spread=FEW, sites=(0, 1, 2))
+        world.run(do(0, 1, 2) + end(0, 1) + do(0, 1, 0, 1, 2) + see(0, 1) + [("decide", 0, 1)])
+        self.assertEqual(world.letters(), ((1, 7, "note", 1, 1, 0, 1, 0, 0, 3, 1, ((0, 0, 0, 0, 1), (1, 0, 1, 0, 2))),))
+        world.run([("bring", 0)] * 2 + end(0, 3))
+        self.assertEqual([record for record in world.log(0) if record[0] == "do"][-1], ("do", 1, 0, 0, 3, (1,), (1,), ((0, 1),)))
+        # What a try that was left has seen is not known.
+        world = one_world(deals=((PUT,), (PUT,)), spread=FEW, sites=(0, 1, 2))
+        world.run(do(0, 1, 2) + end(0, 1) + see(0, 2) + [("leave", 0), ("bring", 0)] + see(0, 1) + [("decide", 0, 1)])
+        self.assertEqual(world.letters(), ((1, 7, "note", 1, 0, 1, 1, 0, 0, 1, 1, ()),))
+
+
 class Bars(Refusing):
 
     def test_what_bars(self):
@@ -550,6 +602,35 @@ class Calm(Refusing):
         self.assertEqual([world.calm(), world.out(), world.lives()], [1, (), (2, 1, 1, 2)])
         world = one_world(deals=((PUT,), (TAKE,), (TAKE,)))
         self.assertEqual([world.calm(), world.heard()], [4, (((0,), 1), ((0,), 1), ((1,), 1))])
+
+    def test_a_turn_ends_when_the_deal_is_given_up(self):
+        # Deal 0 got a note at a site that was cut behind it: its next visit there is told gone. Deal 1 waits for the next round.
+        world = one_world(deals=((PUT, PUT), (TAKE,)))
+        world.run(do(0, 7, 0, 2, 4) + [("cut", 0, 0)])
+        self.assertEqual([world.calm(), world.heard()], [3, (((0,), 0), ((1,), 1))])
+        # Given up as the hand sends, its next deal has its turn at once.
+        world = one_world(deals=((PUT,), (TAKE,)))
+        world.run(see(0, 0, 2) + [("decide", 0, 3), ("cut", 0, 0), ("rise", 0)] + [("lose", 0)] * 2)
+        self.assertEqual([world.calm(), world.heard()], [2, (((0,), 0), ((1,), 1))])
+
+    def test_what_is_left_at_sites_when_all_are_heard_of(self):
+        # A yes that was lost: the site is ready still, and asks.
+        world = one_world(spread=SINGLE, sites=(3,))
+        world.run(do(0, 1, 3) + [("send", 0), ("bring", 0), ("bring", 0), ("bring", 0), ("lose", 0), ("bring", 0)])
+        self.assertEqual([world.heard(), world.letters(), len(world.weave().events)], [(((0,), 1),), (), 3])
+        self.assertEqual([world.calm(), world.calm(), world.weave().events[-1]], [1, 0, ("yes", 0, 0)])
+        # A no that was lost: the deal is at work there still.
+        world = one_world()
+        world.run(see(0, 0, 2) + [("drop", 0, 0), ("bring", 0), ("lose", 0)])
+        self.assertEqual([world.heard(), world.letters(), world.calm(), world.calm()], [(((), 0),), (), 1, 0])
+
+    def test_a_letter_in_the_bag_is_something(self):
+        things = [(SINGLE, (0,)), (SINGLE, (1,))]
+        world = World(Program(things, [[[(0, 0), (1, 0)]], [[(1, 1), (0, 1)]]], [(0, 1), (1, 0)]))
+        world.run(do(0, 1, 0) + do(1, 1, 1))
+        self.assertEqual([world.calm(), world.calm()], [1, 1])
+        world.step(("again", 0))
+        self.assertEqual([world.calm(), world.calm(), world.letters()], [2, 1, ()])
 
     def test_fuses_are_taken_out(self):
         world = one_world()
