@@ -211,7 +211,6 @@ class Hand:
     def hear(self, errand, told):
         """Hears yes or no of the deal that it does now, and goes on to the next one."""
         errand.outcome = told
-        errand.under_way = {}
         self.turn = self.turn + 1
         if told == 0:
             self.chronicle.hear_no(errand.deal)

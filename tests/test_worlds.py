@@ -632,6 +632,12 @@ class Calm(Refusing):
         world.step(("again", 0))
         self.assertEqual([world.calm(), world.calm(), world.letters()], [2, 1, ()])
 
+    def test_what_lies_in_the_bag_is_brought_ahead_of_all_hands(self):
+        # The last noted lies there: the deal ends in the first round.
+        world = one_world(spread=SINGLE, sites=(3,))
+        world.run(see(0, 3) + [("decide", 0, 1), ("bring", 0)])
+        self.assertEqual([[letter[2] for letter in world.letters()], world.calm(), world.heard()], [["noted"], 1, (((0,), 1),)])
+
     def test_fuses_are_taken_out(self):
         world = one_world()
         world.run([("fuse", 0, 1), ("fuse", 6, 2), ("fuse", 2, 3)])
