@@ -38,7 +38,8 @@ def shows_tight(spread, value):
         return False
     spreads = lesser_spreads(spread)
     if isinstance(value, Slack):
-        return are_numbers(value.parts) and any([place == value.parts and bool(is_right(less)) for place, less in spreads])
+        lower = [less for place, less in spreads if are_numbers(value.parts) and place == value.parts]
+        return any([bool(is_right(less)) for less in lower])
     rows = value.rows
     if not isinstance(rows, tuple) or len(rows) != len(spreads):
         return False
