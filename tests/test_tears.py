@@ -328,6 +328,15 @@ class TightSpreads(Refusing):
         self.assertTrue(all(isinstance(row[3], (Missed, Unmet)) and shows_right(less(FEW, operations_of(BOX).index(tuple(row[:2])), row[2]), row[3])
                             for row in tight(FEW).rows))
 
+    def test_a_right_paper_of_a_number_that_can_be_less(self):
+        # Of a spread that is not tight a Tight is never right, be its papers right ones of the lesser spreads or not.
+        for spread in (majority(BOX, 2), Spread(BOX, 3, [(0, 0, 3, 3), (1, 0, 3, 3), (1, 1, 3, 3)]), majority(counter(1), 3)):
+            rows = []
+            for place, row in enumerate(spread.rows):
+                rows += [row[:2] + (which, is_right(less(spread, place, which))) for which in (0, 1) if less(spread, place, which)]
+            self.assertEqual(shows_tight(spread, Tight(rows)), bool(tight(spread)))
+            self.assertEqual(bool(tight(spread)), not any(bool(row[3]) for row in rows))
+
     def test_slack(self):
         spread = Spread(BOX, 3, [(0, 0, 1, 1), (1, 0, 3, 2), (1, 1, 3, 0)])
         self.assertIs(shows_tight(spread, Slack(1, 0, 1)), True)
