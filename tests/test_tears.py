@@ -330,12 +330,14 @@ class TightSpreads(Refusing):
 
     def test_a_right_paper_of_a_number_that_can_be_less(self):
         # Of a spread that is not tight a Tight is never right, be its papers right ones of the lesser spreads or not.
-        for spread in (majority(BOX, 2), Spread(BOX, 3, [(0, 0, 3, 3), (1, 0, 3, 3), (1, 1, 3, 3)]), majority(counter(1), 3)):
+        for spread in (majority(BOX, 2), Spread(BOX, 3, [(0, 0, 3, 3), (1, 0, 3, 3), (1, 1, 3, 3)]), majority(counter(1), 3), LOOSE, APART):
             rows = []
             for place, row in enumerate(spread.rows):
                 rows += [row[:2] + (which, is_right(less(spread, place, which))) for which in (0, 1) if less(spread, place, which)]
-            self.assertEqual(shows_tight(spread, Tight(rows)), bool(tight(spread)))
-            self.assertEqual(bool(tight(spread)), not any(bool(row[3]) for row in rows))
+            wanted = bool(is_right(spread)) and not any(bool(row[3]) for row in rows)
+            self.assertIs(shows_tight(spread, Tight(rows)), wanted)
+            if is_right(spread):
+                self.assertEqual(bool(tight(spread)), wanted)
 
     def test_slack(self):
         spread = Spread(BOX, 3, [(0, 0, 1, 1), (1, 0, 3, 2), (1, 1, 3, 0)])
