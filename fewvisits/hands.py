@@ -117,8 +117,7 @@ class Hand:
         errand.known[venue.thing] = seen
         errand.own[venue.thing] = own + (do,)
         errand.barring = ()
-        numbers = [tuple([venue.sites.index(site) for site in lot]) for lot in (sites, noted)]
-        record = ("do", errand.deal) + do[2:] + (numbers[0], numbers[1], counts_of(seen))
+        record = ("do", errand.deal) + do[2:] + (venue.numbered(sites), venue.numbered(noted), counts_of(seen))
         self.chronicle.give(venue.thing, record, sites)
         return list(errand.under_way.values())
 

@@ -15,6 +15,10 @@ class Venue:
         self.sites = sites
         self.jarring = {pair: True for pair in beside_table(spread.kind)}
 
+    def numbered(self, lot):
+        """The numbers that the spread has for a lot of the sites."""
+        return tuple([self.sites.index(site) for site in lot])
+
     def is_barred(self, operation, mark):
         """Whether a mark bars an operation: that of a deal that is ready, or of what does not go beside."""
         return mark[1] == 1 or self.jars(operation, mark)
