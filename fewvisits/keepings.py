@@ -59,7 +59,8 @@ class Kept:
                 # Of two of one deal and number the later one counts, at its place.
                 self.rows.pop(do[:2], None)
                 self.rows[do[:2]] = (do, code == BROUGHT)
-                self.latest = max(self.latest, do[4])
+        # A do that a later one took the place of is no row any more, so its date does not count.
+        self.latest = max([self.latest] + [do[4] for do, _ in self.rows.values()])
 
     def is_sure_of(self, deal):
         """Whether a deal has a yes, or a ready and no no."""

@@ -393,6 +393,85 @@ class Sites(Refusing):
         site.take((0, 7, "note", 1, 0, 0, 2, 0, 0, 10 ** 50, 0, ()))
         self.assertEqual(site.date, 10 ** 50)
 
+    def noted_anew(self, first, second, rows=()):
+        """A site in its third life: the same do was noted in both others, and got ready in the second one."""
+        site = Site(5, Disk(40))
+        self.do_all(site, [(5, 7, "visit", 8, 0, 0, 1), (5, 7, "note", 8, 0, 0, 1, 0, 0, first, 1, ())])
+        site.cut([0])
+        self.assertEqual((site.rise(), site.lying, site.date), (True, (), 0))
+        self.do_all(site, [(5, 7, "visit", 8, 0, 0, 2), (5, 7, "note", 8, 0, 0, 2, 0, 1, second, 1, rows)])
+        self.assertEqual(site.date, second)
+        self.do_all(site, [(5, 6, "hold", 8, 1, 2)])
+        site.cut([])
+        site.rise()
+        return site
+
+    def test_the_date_of_a_do_that_is_no_row_any_more(self):
+        """Only the rows that a new life has count for its date, and the readies."""
+        for first, second in ((9, 1), (1, 9), (10 ** 50, 2), (4, 4)):
+            site = self.noted_anew(first, second)
+            self.assertEqual((site.life, site.lying, site.holding), (3, ((8, 0, 0, 1, second),), (8,)))
+            self.assertEqual(site.date, second)
+            self.assertEqual(site.take((5, 8, "visit", 3, 0, 0, 3)),
+                             ((8, 5, "shown", 3, 0, 0, 3, second, (), ((8, 1, 0, 0),)),))
+            # So it is with a yes, and in all later lives; what gets ready then bears this date.
+            self.do_all(site, [(5, 8, "leave", 3, 0, 0, ()), (5, 6, "yes", 8)])
+            site.cut([])
+            self.assertEqual((site.rise(), site.past, site.date), (True, (8,), second))
+            self.do_all(site, [(5, 8, "visit", 3, 0, 0, 4), (5, 8, "note", 3, 0, 0, 4, 0, 0, 1, 0, ()), (5, 6, "hold", 3, 1, 4)])
+            site.cut([])
+            self.assertEqual((site.rise(), site.holding, site.date), (True, (3,), second))
+        # What the note brought counts as ever: the date of the site was that of the greatest row.
+        site = self.noted_anew(9, 5, ((4, 0, 0, 0, 3),))
+        self.assertEqual((site.lying, site.date), (((4, 0, 0, 0, 3), (8, 0, 0, 1, 5)), 5))
+
+    def test_the_date_of_a_do_that_was_brought_anew(self):
+        """A do of the first life, which its deal's ready would let count, but it was brought in the second one."""
+        site = Site(5, Disk(40))
+        self.do_all(site, [(5, 7, "visit", 8, 0, 0, 1), (5, 7, "note", 8, 0, 0, 1, 0, 0, 9, 1, ())])
+        site.cut([0])
+        site.rise()
+        self.do_all(site, [(5, 8, "visit", 3, 0, 0, 2), (5, 8, "note", 3, 0, 0, 2, 0, 0, 3, 1, ((8, 0, 0, 0, 2),)),
+                           (5, 7, "visit", 8, 1, 0, 2), (5, 7, "note", 8, 1, 0, 2, 0, 0, 4, 1, ()), (5, 6, "hold", 8, 1, 2)])
+        site.cut([])
+        self.assertEqual((site.rise(), site.lying, site.holding), (True, ((8, 0, 0, 0, 2), (8, 1, 0, 0, 4)), (8,)))
+        self.assertEqual(site.date, 4)
+
+    def life_of_notes(self, dice, site, plainly):
+        """Some notes of few deals in one life, some of which get ready, and a cut at which most of it lands."""
+        for _ in range(dice.randint(1, 3)):
+            deal, number, life = dice.randrange(2), dice.randrange(2), site.life
+            told = (dice.randrange(2), dice.randrange(2), dice.randint(1, 9), dice.choice([0, 1, 1, 1]))
+            brought = ((1 - deal, dice.randrange(2), 0, 0, dice.randint(1, 9)),) if told[3] and dice.random() < 0.2 else ()
+            letters = [(0, 7, "visit", deal, number, 0, life), (0, 7, "note", deal, number, 0, life) + told + (brought,)]
+            if dice.random() < 0.4:
+                many = len([mark for mark in site.marks if mark[0] == deal])
+                letters.append((0, 6, "hold", deal, many + 1, life))
+            if dice.random() < 0.2:
+                letters.append((0, 6, dice.choice(["yes", "no"]), deal))
+            for letter in letters:
+                self.assertEqual(site.take(letter), plainly.take(letter))
+                self.assertEqual(shows(site), plainly.shows())
+        lands = tuple(k for k in range(site.disk.waiting()) if dice.random() < 0.9)
+        for node in (site, plainly):
+            node.cut(lands, ())
+            node.rise()
+
+    def test_random_dates_of_new_lives(self):
+        """A do that is no row any more gives no date: lives that put the same dos again."""
+        lesser = 0
+        for seed in range(400):
+            dice = random.Random(seed)
+            site, plainly = Site(0, Disk(60)), PlainSite(0, 60)
+            for _ in range(4):
+                self.life_of_notes(dice, site, plainly)
+                self.assertEqual(shows(site), plainly.shows())
+                sure = site.holding + site.past
+                dates = [record[4] for record in plainly.records if len(record) == 5
+                         and (record[0] % 8 == 1 or record[0] // 8 in sure)]
+                lesser += site.date < max([0] + dates)
+        self.assertGreater(lesser, 20)
+
     def test_two_records_of_one_do(self):
         """Of two of one deal and number the one that was put last counts, at its place; of those that count at all."""
         own, brought, other, ready = (16, 0, 1, 0, 5), (17, 0, 0, 0, 6), (25, 4, 0, 0, 7), (18, 7)
